@@ -1,0 +1,1 @@
+"""Remadedays: which days must be made again, which stay wrong for good."""

@@ -1,0 +1,80 @@
+"""The examples of the document, with just the answers that stand there."""
+import unittest
+
+from remadedays.cycles import Cycle
+from remadedays.days import Days
+from remadedays.errors import BadNumber, BadText, InUse, NoTable, Unsound
+from remadedays.rings import heights, ring
+from remadedays.ties import Ahead, Back, Last, Same, Sofar, Tie, Whole
+from remadedays.webs import Web
+from samples import Checked
+
+
+def example_web(weeks):
+    """The web of the examples."""
+    return Web(weeks, sales=(), total=(Back("total", 1), Back("sales", 0)), week=(Sofar("sales"),),
+               lag=[Back("sales", 7)], mix=[Back("total", 0), Back("sales", 0)])
+
+
+class Examples(Checked):
+
+    def test_days(self):
+        odd = Days.every(14, 0) & Days.from_day(-3)
+        self.assertEqual([str(odd), odd.least, odd.greatest, odd.right_period, odd.left_period, 28 in odd,
+                          odd.after(10 ** 30), odd.before(0)],
+                         ["right 14 0 from 0", 0, None, 14, 1, True, 1000000000000000000000000000006, None])
+        self.assertEqual([str(odd | Days.of([5, 3])), str(~Days.of([2])), str((odd + 7) - Days.from_day(30)),
+                          str(Days.every(6, 1, 4, -3))],
+                         ["days 0 3 5 right 14 0 from 6", "left 1 0 until 1 right 1 0 from 3", "days 7 21", "every 6 1 3 4"])
+        self.assertEqual([odd.parts, Days.of([4]).parts, Days.always().parts],
+                         [((1, ()), 0, (), 0, (14, (0,))), ((1, ()), 4, (4,), 5, (1, ())),
+                          ((1, (0,)), None, (), None, (1, (0,)))])
+        self.assertEqual([odd <= Days.every(7, 0), odd.count(0, 10 ** 20), list(odd.within(10, 60)), str(odd & (odd + 1)),
+                          3 + Days.of([1, 2]) == Days.of([5, 4])],
+                         [True, 7142857142857142858, [14, 28, 42, 56], "none", True])
+        self.refuses(BadNumber, {"value": 4001}, Days.every, 4001, 0)
+
+    def test_texts_of_days(self):
+        self.assertEqual([Days.read("days 1 2 right 1 0 from 3") == Days.from_day(1), str(Days.read("left 2 0 until 4 days 6"))],
+                         [True, "left 2 0 until 7"])
+        self.refuses(BadText, {"line": 0, "word": 3}, Days.read, "every 7 3 3")
+
+    def test_cycles(self):
+        weeks, long = Cycle(7), Cycle(2, 3)
+        self.assertEqual([weeks.block(-1), weeks.first(10), weeks.last(10), weeks.place(10), 10 % weeks, -1 // weeks],
+                         [-1, 7, 13, 3, 3, -1])
+        self.assertEqual([long.total, long.block(9), long.first(9), long.place(9), long.length(9), list(long), str(long)],
+                         [5, 3, 7, 2, 3, [2, 3], "2 3"])
+
+    def test_ties(self):
+        weeks, long = Cycle(7), Cycle(2, 3)
+        self.assertEqual([Back("a", 3).sources(2, weeks), Ahead("a", 1).users(0, weeks), Sofar("a").sources(9, weeks),
+                          Sofar("a").users(9, weeks)], [(-1,), (-1,), (7, 8, 9), (9, 10, 11, 12, 13)])
+        self.assertEqual([Whole("a")(3, long), Last("a")(5, long), Same("a")(4, long), Same("a")(8, long),
+                          Whole("a").users(0, long), Last("a").users(1, long)],
+                         [(0, 1), (4,), (), (6,), (2, 3, 4), (2, 3, 4)])
+        self.assertEqual([str(Back("a", 3)), Tie.read("last a") == Last("a"), Sofar("a") == Whole("a")],
+                         ["back 3 a", True, False])
+
+    def test_webs(self):
+        weeks = Cycle(7)
+        web = example_web(weeks)
+        self.assertEqual([web.tables, web.ground, web["lag"] == (Back("sales", 7),), web.sources("total", 3),
+                          web.users("sales", 12)],
+                         [("lag", "mix", "sales", "total", "week"), ("sales",), True, (("sales", 3), ("total", 2)),
+                          (("lag", 19), ("mix", 12), ("total", 12), ("week", 12), ("week", 13))])
+        self.refuses(InUse, {"table": "total"}, web.without, "total")
+        self.refuses(NoTable, {"table": "sales"}, Web, weeks, total=[Back("sales", 0)])
+
+    def test_rings(self):
+        weeks = Cycle(7)
+        ahead = Web(weeks, x=[Ahead("y", 1)], y=[Back("x", 2), Back("s", 0)], s=[])
+        found = heights(ahead)
+        self.assertEqual([ring(ahead), found.due("x", 5), found.due("y", 5), found["x", 0], found["y", 0], found.key("y", 5)],
+                         [None, 6, 5, 23, 1, (5, 106, "y", 5)])
+        self.assertEqual(ring(ahead.put("y", [Back("x", 1)])), (("x", 0), ("y", 1), ("x", 0)))
+        self.refuses(Unsound, {"table": "a"}, heights, Web(weeks, a=[Sofar("a")]))
+
+
+if __name__ == "__main__":
+    unittest.main()
