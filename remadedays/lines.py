@@ -92,8 +92,6 @@ def shared_period(one, other):
 
 def shared_span(one, other):
     """From the lesser low to the greater high of two lines, refused if it is too far; None, None without any."""
-    if one[1] is None and other[1] is None:
-        return None, None
     if one[1] is None:
         return other[1], other[3]
     if other[1] is None:

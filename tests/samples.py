@@ -20,7 +20,7 @@ HOLDERS = [(), [], {}, (1,), [1], [0], {1: 2}, {"a": 1}, (0, 1), [None], *NESTED
 TOO_LONG = [10 ** 60, -10 ** 60, 10 ** 79, -(10 ** 80 - 1), 10 ** 60 + 5]
 NOT_DAYS = [*ODD, *HOLDERS, *TOO_LONG, "a", "days"]
 NOT_NAMES = [None, True, 0, 7, FAR, 10 ** 60, "", "abcdefghi", "A", "aB", "a1", "1", "a b", " a", "a ", "a\n", "\n", "a-b",
-             "a_b", "_", "a.b", "x" * 2000, ("a",), ["a"], {"a": 1}, (), [], {}, *NESTED, *OBJECTS]
+             "a_b", "_", "a.b", "\u00e9", "a\u00e9", "x" * 2000, ("a",), ["a"], {"a": 1}, (), [], {}, *NESTED, *OBJECTS]
 NAMES = ["a", "z", "back", "from", "all", "none", "abcdefgh", "zzzzzzzz", "days", "self", "cycle", "table"]
 
 
