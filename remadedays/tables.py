@@ -17,10 +17,9 @@ def in_order(records):
     """The ascending tuple of some records, each once."""
     days_of = {}
     for table, day in records:
-        if table not in days_of:
-            days_of[table] = {}
-        days_of[table][day] = True
+        days_of.setdefault(table, []).append(day)
     found = []
     for name in sorted([str(key) for key in days_of]):
-        found.extend([(name, at) for at in sorted([int(key) for key in days_of[name]])])
+        once = {at: True for at in days_of[name]}
+        found.extend([(name, at) for at in sorted([int(key) for key in once])])
     return tuple(found)

@@ -17,7 +17,7 @@ BUILTINS = {"len", "range", "enumerate", "zip", "min", "max", "sum", "abs", "sor
             "dict", "isinstance", "any", "all", "iter", "ValueError", "TypeError", "NotImplemented", "property", "classmethod",
             "staticmethod", "True", "False", "None"}
 METHODS = {"append", "count", "extend", "get", "index", "isalpha", "isascii", "isdigit", "islower", "items", "join", "pop",
-           "split", "startswith", "removeprefix", "bit_length", "values"}
+           "split", "startswith", "removeprefix", "bit_length", "values", "setdefault"}
 SPECIAL = {"__init__", "__eq__", "__str__", "__len__", "__call__", "__iter__", "__lt__", "__le__", "__gt__", "__ge__", "__add__",
            "__radd__", "__sub__", "__and__", "__or__", "__xor__", "__mod__", "__rmod__", "__floordiv__", "__rfloordiv__",
            "__invert__", "__bool__", "__contains__", "__getitem__"}
