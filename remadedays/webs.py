@@ -1,6 +1,6 @@
 """Webs: tables over a cycle, and the ties between them."""
 from remadedays.cycles import Cycle
-from remadedays.errors import BadCycle, BadDay, BadName, BadTies, InUse, NoTable, TooMany, Unlike
+from remadedays.errors import BadCycle, BadDay, BadName, BadTies, InUse, NoTable, NotGround, TooMany, Unlike
 from remadedays.kinds import is_day, is_name
 from remadedays.tables import in_order, names_of
 from remadedays.ties import Tie
@@ -102,6 +102,15 @@ class Web:
         """Refuses what is no table of the web or no day."""
         if table not in self:
             raise NoTable(table)
+        if not is_day(day):
+            raise BadDay(day)
+
+    def check_ground(self, table, day):
+        """Refuses what is no ground table of the web or no day."""
+        if table not in self:
+            raise NoTable(table)
+        if self._ties[table]:
+            raise NotGround(table)
         if not is_day(day):
             raise BadDay(day)
 

@@ -19,6 +19,10 @@ class Words:
         """Whether this is the next word."""
         return not self.is_over() and self._words[self._at] == word
 
+    def is_alone(self, word):
+        """Whether this word is the whole line."""
+        return self._words == [word]
+
     def take_one_of(self, choices):
         """The next word, one of these."""
         for word in choices:
@@ -47,6 +51,12 @@ class Words:
             raise BadText(self._row, self._at)
         self._at = self._at + 1
         return self._words[self._at - 1]
+
+    def take_name_above(self, name):
+        """The name that the next word is, one above this one."""
+        if not self.is_over() and self._words[self._at] <= name:
+            raise BadText(self._row, self._at)
+        return self.take_name()
 
     def take_end(self):
         """Nothing: no word may be left."""

@@ -1,10 +1,13 @@
 """The examples of the document, with just the answers that stand there."""
 import unittest
 
+from remadedays.again import again, again_count
 from remadedays.cycles import Cycle
 from remadedays.days import Days
 from remadedays.errors import BadNumber, BadText, InUse, NoTable, Unsound
+from remadedays.hung import hung, roots, way
 from remadedays.rings import heights, ring
+from remadedays.rules import Keeping, Rule
 from remadedays.ties import Ahead, Back, Last, Same, Sofar, Tie, Whole
 from remadedays.webs import Web
 from samples import Checked
@@ -14,6 +17,11 @@ def example_web(weeks):
     """The web of the examples."""
     return Web(weeks, sales=(), total=(Back("total", 1), Back("sales", 0)), week=(Sofar("sales"),),
                lag=[Back("sales", 7)], mix=[Back("total", 0), Back("sales", 0)])
+
+
+def ahead_web(weeks):
+    """The web of the examples that looks ahead."""
+    return Web(weeks, x=[Ahead("y", 1)], y=[Back("x", 2), Back("s", 0)], s=[])
 
 
 class Examples(Checked):
@@ -68,12 +76,37 @@ class Examples(Checked):
 
     def test_rings(self):
         weeks = Cycle(7)
-        ahead = Web(weeks, x=[Ahead("y", 1)], y=[Back("x", 2), Back("s", 0)], s=[])
+        ahead = ahead_web(weeks)
         found = heights(ahead)
         self.assertEqual([ring(ahead), found.due("x", 5), found.due("y", 5), found["x", 0], found["y", 0], found.key("y", 5)],
                          [None, 6, 5, 23, 1, (5, 106, "y", 5)])
         self.assertEqual(ring(ahead.put("y", [Back("x", 1)])), (("x", 0), ("y", 1), ("x", 0)))
         self.refuses(Unsound, {"table": "a"}, heights, Web(weeks, a=[Sofar("a")]))
+
+    def test_hung(self):
+        weeks = Cycle(7)
+        web = example_web(weeks)
+        found = hung(web, "sales", 2)
+        self.assertEqual([found.tables, str(found["week"]), str(found["total"]), str(found["lag"]), ("mix", 10 ** 40) in found],
+                         [("lag", "mix", "sales", "total", "week"), "days 2 3 4 5 6", "right 1 0 from 2", "days 9", True])
+        self.assertEqual([str(roots(web, "mix", 3)["sales"]), way(web, "sales", 2, "mix", 4), way(web, "sales", 2, "week", 7)],
+                         ["left 1 0 until 3", (("sales", 2), ("total", 2), ("total", 3), ("total", 4), ("mix", 4)), None])
+        turns = Web(weeks, a=[Back("b", 7)], b=[Back("a", 7)])
+        self.assertEqual([str(hung(turns, "a", 0)["a"]), str(hung(turns, "a", 0)["b"])],
+                         ["right 14 0 from 0", "right 14 7 from 7"])
+        self.assertEqual(str(hung(ahead_web(weeks), "s", 5)), "s days 5\nx right 1 0 from 4\ny right 1 0 from 5")
+
+    def test_rules(self):
+        rule = Rule(total=2, week=2, lag=2, mix="all")
+        self.assertEqual([rule["total"], rule["sales"], Keeping()["sales"], rule.told, str(rule), rule <= rule.put("lag", "all"),
+                          Rule.read("a 0 b all") == Rule(b="all")],
+                         [2, 0, "all", ("lag", "mix", "total", "week"), "lag 2 mix all total 2 week 2", True, True])
+
+    def test_again(self):
+        web = example_web(Cycle(7))
+        self.assertEqual(list(again(web, [("sales", 2), ("sales", 3)], 3)),
+                         [("total", 2), ("week", 2), ("mix", 2), ("total", 3), ("week", 3), ("mix", 3)])
+        self.assertEqual(again_count(web, [("sales", 2)], 10 ** 20), 200000000000000000004)
 
 
 if __name__ == "__main__":
