@@ -2,12 +2,16 @@
 import unittest
 
 from remadedays.again import again, again_count
+from remadedays.alike import parted
 from remadedays.cycles import Cycle
 from remadedays.days import Days
-from remadedays.errors import BadNumber, BadText, InUse, NoTable, Unsound
+from remadedays.errors import BadNumber, BadText, InUse, NoTable, TooShort, Unsound
 from remadedays.hung import hung, roots, way
+from remadedays.lateness import least_rule, stands
+from remadedays.lots import listed, lots
 from remadedays.rings import heights, ring
 from remadedays.rules import Keeping, Rule
+from remadedays.settled import settled
 from remadedays.ties import Ahead, Back, Last, Same, Sofar, Tie, Whole
 from remadedays.webs import Web
 from samples import Checked
@@ -22,6 +26,16 @@ def example_web(weeks):
 def ahead_web(weeks):
     """The web of the examples that looks ahead."""
     return Web(weeks, x=[Ahead("y", 1)], y=[Back("x", 2), Back("s", 0)], s=[])
+
+
+def pair_web(weeks):
+    """The web of the examples in which one table reads two days of another."""
+    return Web(weeks, sales=[], a=[Back("sales", 0), Back("sales", 7)])
+
+
+def sums_web(weeks):
+    """The web of the examples with a running total."""
+    return Web(weeks, sales=[], total=[Back("total", 1), Back("sales", 0)])
 
 
 class Examples(Checked):
@@ -107,6 +121,47 @@ class Examples(Checked):
         self.assertEqual(list(again(web, [("sales", 2), ("sales", 3)], 3)),
                          [("total", 2), ("week", 2), ("mix", 2), ("total", 3), ("week", 3), ("mix", 3)])
         self.assertEqual(again_count(web, [("sales", 2)], 10 ** 20), 200000000000000000004)
+
+    def test_settled(self):
+        weeks = Cycle(7)
+        web, pair, ahead = example_web(weeks), pair_web(weeks), ahead_web(weeks)
+        rule = Rule(total=2, week=2, lag=2, mix="all")
+        late = settled(web, rule, None, "sales", 10, 2)
+        self.assertEqual([str(late.right), str(late.stale), str(late.half)],
+                         ["lag days 17\nsales days 10\nweek days 11 12 13",
+                          "mix right 1 0 from 11\ntotal right 1 0 from 10\nweek days 10", "mix days 10"])
+        self.assertEqual([bool(late), bool(settled(web, rule, None, "sales", 10, 1)), late.state("mix", 10),
+                          late.state("week", 14), late.state("total", 10 ** 30)], [False, True, "half", "clear", "stale"])
+        self.assertEqual([str(settled(pair, Rule(a="all"), Keeping(sales=7), "sales", 10, 0).stale),
+                          bool(settled(pair, Rule(a="all"), Keeping(sales=8), "sales", 10, 0))], ["a days 10", True])
+        self.assertEqual([bool(settled(ahead, Rule(x=1, y=1), None, "s", 5, 0)),
+                          str(settled(ahead, Rule(x=1, y=1), None, "s", 5, 1).stale)],
+                         [True, "x right 1 0 from 4\ny right 1 0 from 5"])
+        self.refuses(TooShort, {"table": "sales"}, settled, pair, Rule(), Keeping(sales=6), "sales", 10, 0)
+
+    def test_lateness(self):
+        weeks = Cycle(7)
+        web, pair = example_web(weeks), pair_web(weeks)
+        rule = Rule(total=2, week=2, lag=2, mix="all")
+        self.assertEqual([stands(web, rule).nights, stands(web, rule).beyond, str(least_rule(web, 5)), str(least_rule(web, None))],
+                         [1, ("sales", 0, 2, ("total", 0), ("old",)), "mix 6 total 6 week 6",
+                          "lag all mix all total all week all"])
+        self.assertEqual([stands(pair, Rule(a="all"), Keeping(sales=7)).beyond, stands(web, least_rule(web, 5)).nights,
+                          stands(web, least_rule(web, None)).nights],
+                         [("sales", 0, 0, ("a", 0), ("gone", ("sales", -7))), 5, None])
+
+    def test_lots(self):
+        sums = sums_web(Cycle(7))
+        self.assertEqual([lots(sums, "sales", 0, 100, 1), lots(sums, "sales", 0, 100, 2), lots(sums, "sales", 5, 0, 1),
+                          lots(sums, "sales", 5, 10 ** 30, 3)], [None, 100, 1, 500000000000000000000000000000])
+        self.assertEqual([listed(sums, "sales", 0, 100, 2, 0), listed(sums, "sales", 0, 100, 2, 99),
+                          listed(sums, "sales", 0, 100, 2, 100), listed(sums, "sales", 0, 1, 1, 10 ** 9)], [101, 2, 0, 2])
+
+    def test_alike(self):
+        sums = sums_web(Cycle(7))
+        self.assertEqual([parted(sums, sums.put("total", [Back("total", 1), Back("sales", 0), Back("sales", 3)])),
+                          parted(sums, sums.put("total", [Sofar("sales"), Back("total", 2)]))],
+                         [None, (("sales", 6), ("total", 7))])
 
 
 if __name__ == "__main__":
