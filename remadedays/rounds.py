@@ -68,7 +68,7 @@ def first_round(web, found):
     for table in web.tables:
         for rest in range(total):
             day = rest - found.due(table, rest) // total * total
-            due, worth, _, _ = found.key(table, day)
+            due, worth = found.key(table, day)[:2]
             code = ((due * WIDE + worth) * WIDE + web.tables.index(table)) * WIDE + day
             records[code] = (table, day)
     return [records[at] for at in sorted([int(key) for key in records])]

@@ -39,7 +39,7 @@ class Rule(Nights):
     @classmethod
     def of(cls, nights):
         """The rule with a table of values."""
-        made = cls()
+        made = Rule()
         made._values = checked_nights(nights, 0)
         return made
 
@@ -100,7 +100,7 @@ class Keeping(Nights):
     @classmethod
     def of(cls, nights):
         """The keeping with a table of values."""
-        made = cls()
+        made = Keeping()
         made._values = checked_nights(nights, ALL_NIGHTS)
         return made
 

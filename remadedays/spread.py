@@ -37,7 +37,8 @@ class Spread:
 
     def lengthen(self, many):
         """Makes the row so long."""
-        for at in range(len(self.row), many):
+        short = len(self.row)
+        for at in range(short, many):
             self.row.append(self.joined_at(at))
 
     def find_turns(self, late):

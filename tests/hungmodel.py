@@ -3,7 +3,7 @@ from math import lcm
 
 from remadedays.cycles import Cycle
 from remadedays.rings import heights, ring
-from remadedays.ties import Back
+from remadedays.ties import Ahead, Back, Last, Same
 from remadedays.webs import Web
 from webmodel import made_from, numbers, some_tie
 
@@ -28,6 +28,21 @@ def sound_web(rng, least=2, most=4, ground=False):
         web = Web.of(Cycle(*lengths), tables)
         if ring(web) is None and slack_of(web) <= SLACK:
             return web
+
+
+def layered_web(rng):
+    """A drawn web whose tables look far ahead, but only in tables above them; back in themselves, too."""
+    lengths = rng.choice(ROWS)
+    names = "gabcd"[:rng.randint(3, 5)]
+    tables = {"g": []}
+    far = rng.choice([2, 2, 9, 60])
+    for at, name in enumerate(names[1:]):
+        ties = [rng.choice([Ahead(source, rng.randint(1, 60)), Same(source), Last(source), Back(source, rng.randint(0, far))])
+                for source in (rng.choice(names[:at + 1]) for _ in range(rng.randint(1, 3)))]
+        if rng.random() < 0.3:
+            ties.append(rng.choice([Back(name, rng.randint(1, 3)), Same(name)]))
+        tables[name] = ties
+    return Web.of(Cycle(*lengths), tables)
 
 
 def loop_web(total, tables):

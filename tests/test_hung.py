@@ -9,7 +9,7 @@ from remadedays.records import Records
 from remadedays.rings import ring
 from remadedays.ties import Ahead, Back, Last, Same, Sofar, Whole
 from remadedays.webs import Web
-from hungmodel import SLACK, days_told, reached, sound_web, users_within
+from hungmodel import SLACK, days_told, layered_web, reached, sound_web, users_within
 from samples import FAR, LONG, NOT_DAYS, NOT_NAMES, WEEKS, Checked
 from webmodel import made_from, some_web
 
@@ -64,6 +64,22 @@ class BySteps(Checked):
                 for name in web:
                     self.assertEqual(days_told(found, name, -BEHIND, SLACK),
                                      {at for other, at in seen if other == name and -BEHIND <= at < SLACK})
+
+    def test_long_delays(self):
+        rng = random.Random(37)
+        for _ in range(60):
+            web = layered_web(rng)
+            users = users_within(web, -320, 320)
+            sources = {record: [] for record in users}
+            for record, others in users.items():
+                for other in others:
+                    sources[other].append(record)
+            for table in web:
+                day = rng.randrange(web.cycle.total)
+                for found, steps in ((hung(web, table, day), users), (roots(web, table, day), sources)):
+                    seen = reached(steps, (table, day))
+                    for name in web:
+                        self.assertEqual(days_told(found, name, -70, 70), {at for other, at in seen if other == name and -70 <= at < 70})
 
     def test_for_all_days_at_once(self):
         rng = random.Random(33)
@@ -196,6 +212,16 @@ class Told(Checked):
         self.assertEqual(found["x"].parts, ((1, ()), -59, tuple(range(-59, -1, 4)), -1, (4, (1, 2))))
         found = hung(web, "g", 3)
         self.assertEqual(found["x"].parts, ((1, ()), 5, (), 5, (4, (1,))))
+        web = Web(Cycle(1, 3), g=[], y=[Ahead("g", 60)], x=[Same("y"), Back("g", 2)])
+        self.assertEqual(str(hung(web, "g", 0)), "g days 0\nx days -59 2\ny days -60")
+        self.assertEqual([str(roots(web, "x", 1)), str(roots(web, "x", 2))], ["g days -1 60\nx days 1\ny days 0", "g days 0\nx days 2"])
+        short = web.put("x", [Same("y")])
+        self.assertEqual([str(hung(short, "x", day)) for day in range(4)], [f"x days {day}" for day in range(4)])
+        self.assertEqual([str(roots(short, "x", 1)), str(roots(short, "x", 2))], ["g days 60\nx days 1\ny days 0", "x days 2"])
+        web = web.put("z", [Back("x", 40), Back("x", 38)])
+        self.assertEqual([str(hung(web, "g", 0)["x"]), str(hung(web, "g", 1)["x"])], ["days -59 2", "days -56 3"])
+        self.assertEqual([str(roots(web, "z", 0)["x"]), str(roots(web, "z", 0)["g"])], ["days -40 -38", "days -42 -40 17"])
+        web = Web(Cycle(1, 3), g=[], y=[Ahead("g", 60)], x=[Same("y"), Back("x", 4), Back("g", 2)])
         self.assertEqual(str(hung(web, "g", 1)["x"]), "days -56 -52 -48 -44 -40 -36 -32 -28 -24 -20 -16 -12 -8 -4 right 4 0 3 from 0")
 
 

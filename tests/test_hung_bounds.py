@@ -62,6 +62,17 @@ class Bounds(Checked):
             self.check_end(web, "g", 95 + more - 94 + 3990)
         self.assertEqual(95 + 9 - 94 + 3990, 4000)
 
+    def test_end_of_the_first_turn_by_a_total(self):
+        for more in range(5, 16):
+            # All days of t from that number on: ahead of it is none, so all repeats from there on just.
+            web = loop_web(42, {"a": [("b", 60), ("g", 0)], "b": [("a", 35)], "t": [("t", 1), ("g", more)], "g": []})
+            self.check_end(web, "g", more + 3990)
+            web = loop_web(42, {"d": [("a", 0), ("t", more)], "a": [("b", 60)], "b": [("a", 35)], "t": [("t", 1)]})
+            if more + 3990 <= 4000:
+                self.assertEqual(roots(web, "d", 0)["t"].greatest, -more)
+            else:
+                self.refuses(TooMany, REFUSED, roots, web, "d", 0)
+
     def test_end_of_the_first_turn_by_number_of_late_days(self):
         for total in range(20, 34):
             tables = {"a": [("b", 58), ("b", 60)], "b": [("a", 5)]}
@@ -128,20 +139,38 @@ class Bounds(Checked):
             else:
                 self.refuses(TooMany, REFUSED, roots, web, "d", 0)
 
-    def test_middles(self):
-        # What is far ahead of the record counts, too: no middle may go over more than 4,000 days.
-        for last in range(2, 60):
-            web = loop_web(1, {"a": [("a", 60), ("a", 59), ("b", 60)], "b": [("b", 60), ("b", 59), ("g", last)], "g": []})
+    def test_late_days_behind_a_chain(self):
+        for last in range(2, 60, 3):
             tables = {"a": [("a", 60), ("a", 59), ("b", 60)], "b": [("b", 60), ("b", 59), ("g", last)], "g": []}
             period, begin = turn_by_looking(list(rows_of(tables, "g", 9000).values()), 1, 6000)
-            self.check_end(web, "g", begin + period)
-        tables = {"a": [Back("b", 58), Back("b", 60)], "b": [Back("a", 5)], "x": [Ahead("y", 60), Back("b", 0)], "y": [Back("g", 0)],
-                  "g": [], "z": [Ahead("x", 60)]}
-        for number in range(0, 60, 7):
+            self.check_end(loop_web(1, tables), "g", begin + period)
+
+    def test_middles(self):
+        # No middle may go over more than 4,000 days, also where it begins far ahead of the record.
+        tables = {"a": [Back("b", 57), Back("b", 60)], "b": [Back("a", 5)], "x": [Ahead("y", 60), Back("b", 0)],
+                  "y": [Back("g", 0)], "g": []}
+        told = 0
+        for number in range(22, 42):
             web = Web.of(Cycle(1), {**tables, "a": [*tables["a"], Back("g", number)]})
-            # The days of x go from 60 days ahead of the record to those in b, and so do those of z, 60 days ahead.
-            begin = number + 5 + 63 * 65 - 63 - 65 + 1
+            # The days of x go from 60 days ahead of the record to those of b: the sums of 62 and 65.
+            begin = number + 5 + 62 * 65 - 62 - 65 + 1
             if begin + 60 <= 4000:
                 self.assertEqual(hung(web, "g", 0)["x"].parts[1:4:2], (-60, begin))
+                told += 1
             else:
+                self.assertLess(begin + 1, 4000)
                 self.refuses(TooMany, REFUSED, hung, web, "g", 0)
+        self.assertEqual(told, 10)
+
+    def test_middles_of_roots(self):
+        tables = {"b": [Back("a", 57), Back("a", 60), Back("x", 0)], "a": [Back("b", 5)], "y": [Ahead("x", 60)], "x": []}
+        told = 0
+        for number in range(22, 42):
+            web = Web.of(Cycle(1), {**tables, "g": [Back("y", 0), Back("a", number)]})
+            begin = number + 5 + 62 * 65 - 62 - 65 + 1
+            if begin + 60 <= 4000:
+                self.assertEqual(roots(web, "g", 0)["x"].parts[1:4:2], (1 - begin, 61))
+                told += 1
+            else:
+                self.refuses(TooMany, REFUSED, roots, web, "g", 0)
+        self.assertEqual(told, 10)

@@ -81,6 +81,18 @@ class Played(Checked):
         self.assertEqual(lots(web, "g", 0, 10 ** 40, 2), None)
         self.assertEqual(lots(web, "g", 0, 10 ** 40, 3), 2 * 10 ** 40 - 3422)
 
+    def test_records_that_become_due_long_behind_their_days(self):
+        web = Web(WEEKS, g=[], h=[], x=[Back("g", 0), Ahead("h", 60)], y=[Back("x", 0)], z=[Back("x", 1)],
+                  t=[Back("t", 1), Back("g", 0)])
+        found = heights(web)
+        users = users_within(web, -10, 400)
+        dues = sorted(found.due(*other) for other in reached(users, ("g", 0)) if web[other[0]])
+        for late in (0, 1, 30, 50, 58, 59, 60, 61, 62, 80):
+            for most in (1, 2, 3):
+                self.check_play(web, ("g", 0), late, most, lengths_by_playing(dues, late, most, 150))
+        # Three of them join the list besides: it is empty three nights later.
+        self.assertEqual([lots(web, "g", 0, 50, 2), lots(web.put("x", []), "g", 0, 50, 2)], [53, 50])
+
 
 class Told(Checked):
 
