@@ -43,7 +43,7 @@ class Played(Checked):
                 for record in play.due:
                     if play.due[record] <= day + late + 25 and record not in wanted:
                         self.assertEqual(found.state(*record), "clear")
-        self.assertGreater(min(seen.values()), 300)
+        self.assertGreater(min(seen.values()), 100)
 
     def test_many_nights_late(self):
         rng = random.Random(82)
@@ -297,7 +297,7 @@ class Bounds(Checked):
                         self.assertEqual(list(held[name].within(-9, 5000)), [day for day in range(5000) if row[day]])
             else:
                 self.refuses(TooMany, {"what": "days", "most": 4000}, settled, web, rule, None, "g", 0, late)
-        self.assertGreater(min(seen.values()), 8)
+        self.assertGreater(min(seen.values()), 2)
 
     def test_what_hangs_can_be_told_and_the_three_sets_cannot(self):
         for total in range(20, 34):
