@@ -57,7 +57,7 @@ def least_rule(web, late):
             if late is None:
                 told[table] = Nights.ALL
             else:
-                told[table] = max(int(late) + 1 - nearest[place], told.get(table, 0))
+                told[table] = max(int(late + 1 - nearest[place]), told.get(table, 0))
     return Rule.of(told)
 
 

@@ -56,7 +56,7 @@ def unlike_nights(rounds, sets, night):
     unlike = 0
     for days in sets.values():
         period = lcm(period, days.right_period)
-        unlike = max(int(days.parts[3]) + rounds.slack - night, unlike)
+        unlike = max(int(days.parts[3] + rounds.slack - night), unlike)
     return period, unlike
 
 

@@ -58,12 +58,21 @@ def comprehension_names(function):
 
 
 def is_plain(node):
-    """Whether an expression is plainly a number or a string."""
+    """Whether an expression is plainly a number or a string; a sum only if each of its parts is."""
     if isinstance(node, ast.BinOp) and isinstance(node.op, (ast.Add, ast.Sub)):
-        return is_plain(node.left) or is_plain(node.right)
+        return is_plain(node.left) and is_plain(node.right)
     if isinstance(node, ast.Call) and isinstance(node.func, ast.Name):
         return node.func.id in ("len", "int", "str")
     return isinstance(node, ast.Constant)
+
+
+def is_choice_of_plain(call):
+    """Whether a call of sorted, min or max stands over what is plainly numbers or strings."""
+    if {word.arg for word in call.keywords} - {"default"}:
+        return False
+    if len(call.args) == 1:
+        return isinstance(call.args[0], ast.ListComp) and is_plain(call.args[0].elt)
+    return any(is_plain(arg) for arg in call.args)
 
 
 class Files(unittest.TestCase):
@@ -202,14 +211,18 @@ class Trees(unittest.TestCase):
                     continue
                 place = (name, node.lineno)
                 if node.func.id in ("sorted", "min", "max"):
-                    if len(node.args) == 1:
-                        self.assertIsInstance(node.args[0], ast.ListComp, place)
-                        self.assertTrue(is_plain(node.args[0].elt), place)
-                    else:
-                        self.assertTrue(any(is_plain(arg) for arg in node.args), place)
-                    self.assertLessEqual({word.arg for word in node.keywords}, {"default"}, place)
+                    self.assertTrue(is_choice_of_plain(node), place)
                 if node.func.id in ("any", "all"):
                     self.assertIsInstance(node.args[0], ast.ListComp, place)
+
+    def test_choices_of_numbers(self):
+        for row in ("max(int(late) + 1 - nearest[place], told.get(table, 0))", "max(int(days.parts[3]) + slack - night, unlike)",
+                    "max(night, unlike)", "min(rows)", "min([night for night in rows])", "sorted(rows, key=len)",
+                    "sorted(rows, reverse=True)", "min([int(night) + more for night in rows])", "max(-night, late - 1)"):
+            self.assertFalse(is_choice_of_plain(ast.parse(row).body[0].value), row)
+        for row in ("max(int(late + 1 - nearest[place]), told.get(table, 0))", "max(0, night)", "min(int(high) - 1, day)",
+                    "sorted([str(name) for name in rows])", "max([len(row) + 1 for row in rows], default=0)"):
+            self.assertTrue(is_choice_of_plain(ast.parse(row).body[0].value), row)
 
     def test_classes(self):
         for name, tree in TREES.items():
