@@ -15,7 +15,11 @@ def hung(web, table, day):
 def roots(web, table, day):
     """The Records on which a record hangs, itself too."""
     web.check_place(table, day)
-    rounds = Rounds(web)
+    return roots_in(Rounds(web), table, day)
+
+
+def roots_in(rounds, table, day):
+    """The Records on which a record hangs, of a web with these rounds."""
     rest = day % rounds.turn
     return sets_of(Spread(rounds, table, rest, -1), day, rest, 0)[0]
 

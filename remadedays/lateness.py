@@ -1,7 +1,7 @@
 """The greatest lateness that a rule stands, and the least rule for a lateness."""
 from remadedays.errors import BadNumber
 from remadedays.kinds import is_between
-from remadedays.limits import check_keeping, kept_for, least_sums, limits_of
+from remadedays.limits import checked_limits, kept_for, least_sums
 from remadedays.rounds import Rounds
 from remadedays.rules import Nights, Rule
 
@@ -12,8 +12,7 @@ def stands(web, rule, keeping=None):
     """The greatest lateness that a rule and a keeping stand, and what goes wrong beyond it."""
     rounds = Rounds(web)
     kept = kept_for(keeping)
-    check_keeping(web, rounds, kept)
-    limits = limits_of(web, rounds, rule, kept)
+    limits = checked_limits(web, rounds, rule, kept)
     ends = first_ends(rounds, limits)
     wrong = [int(ends[place]) for place in ground_places(web, rounds) if ends[place] is not None]
     if not wrong:

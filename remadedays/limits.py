@@ -16,6 +16,12 @@ def kept_for(keeping):
     return Keeping() if keeping is None else keeping
 
 
+def checked_limits(web, rounds, rule, keeping):
+    """The limits of a web's records, as limits_of; refuses a keeping that is too short."""
+    check_keeping(web, rounds, keeping)
+    return limits_of(web, rounds, rule, keeping)
+
+
 def nights_needed(rounds):
     """For each table with users for how many nights its records are read for first makings."""
     needed = {}

@@ -55,6 +55,11 @@ class Rounds:
         """The due night of the record with an index."""
         return self.dues[index % self.width] + index // self.width * self.turn
 
+    def index_behind(self, night):
+        """The index of the first record that is due behind a night."""
+        rest = night % self.turn
+        return night // self.turn * self.width + len([due for due in self.dues if due <= rest])
+
     def gaps_at(self, place):
         """For each source of a place in a round the pair of its place and of how many nights earlier it is due."""
         due = self.dues[place]

@@ -1,7 +1,7 @@
 """What becomes of a correction in the end: what is right, what stays stale or half."""
 from remadedays.errors import BadDay, BadNumber, NoTable
 from remadedays.kinds import is_between, is_day, is_name
-from remadedays.limits import check_keeping, kept_for, limits_of
+from remadedays.limits import checked_limits, kept_for
 from remadedays.rounds import Rounds
 from remadedays.spread import Spread
 from remadedays.turns import sets_of
@@ -13,13 +13,16 @@ STALE = 2
 
 def settled(web, rule, keeping, table, day, late):
     """What becomes of a correction of a ground record that is so many nights late."""
+    check_correction(web, table, day, late)
+    rounds = Rounds(web)
+    return settled_in(web, rounds, checked_limits(web, rounds, rule, kept_for(keeping)), (table, day, late))
+
+
+def check_correction(web, table, day, late):
+    """Refuses what is no record of a ground table, and then what is no number of nights to be late."""
     web.check_ground(table, day)
     if not is_between(late, 0, MOST_LATE):
         raise BadNumber(late)
-    rounds = Rounds(web)
-    kept = kept_for(keeping)
-    check_keeping(web, rounds, kept)
-    return settled_in(web, rounds, limits_of(web, rounds, rule, kept), (table, day, late))
 
 
 def settled_in(web, rounds, limits, correction):

@@ -55,20 +55,20 @@ class Play:
             made = set()
             for record in self.in_order:
                 due = self.due[record]
-                if due < now and self.is_again(rule, keeping, record, made, now, corrected if now == night + 1 else None):
+                if due < now and self.is_again(rule, keeping, record, made, now, {corrected} if now == night + 1 else set()):
                     made.add(record)
                 if (due == now or record in made) and record in hangs and record != corrected:
                     states[record] = self.state_of(states, record)
         return states
 
     def is_again(self, rule, keeping, record, made, now, corrected):
-        """Whether a record is made again on a night."""
+        """Whether a record is made again on a night, ahead of which just these were corrected."""
         table, _ = record
         if not self.web[table]:
             return False
         sources = self.sources[record]
         if rule[table] == "all":
-            if not any(source in made or source == corrected for source in sources):
+            if not any(source in made or source in corrected for source in sources):
                 return False
         elif now > self.due[record] + rule[table]:
             return False

@@ -5,10 +5,13 @@ from remadedays.again import again, again_count
 from remadedays.alike import parted
 from remadedays.cycles import Cycle
 from remadedays.days import Days
-from remadedays.errors import BadNumber, BadText, InUse, NoTable, TooShort, Unsound
+from remadedays.errors import BadNumber, BadText, InUse, NotYet, NoTable, TooShort, Unsound
+from remadedays.explained import explained
+from remadedays.house import House
 from remadedays.hung import hung, roots, way
 from remadedays.lateness import least_rule, stands
 from remadedays.lots import listed, lots
+from remadedays.papers import hung_paper, settled_paper, sound_paper, way_paper
 from remadedays.rings import heights, ring
 from remadedays.rules import Keeping, Rule
 from remadedays.settled import settled
@@ -162,6 +165,31 @@ class Examples(Checked):
         self.assertEqual([parted(sums, sums.put("total", [Back("total", 1), Back("sales", 0), Back("sales", 3)])),
                           parted(sums, sums.put("total", [Sofar("sales"), Back("total", 2)]))],
                          [None, (("sales", 6), ("total", 7))])
+
+    def test_explained(self):
+        web = example_web(Cycle(7))
+        self.assertEqual([str(explained(web, [("week", 12), ("total", 9)])), str(explained(web, [("week", 12)], [("week", 10)])),
+                          str(explained(web, [("lag", 9), ("week", 9)]))], ["sales days 7 8 9", "sales days 11 12", "none"])
+
+    def test_house(self):
+        house = House(example_web(Cycle(7)), Rule(total=2, week=2, lag=2, mix="all"), night=12)
+        self.assertEqual([house.correct("sales", 10), house.state(0, "total", 10), house.wrong("week"), house.sleep(),
+                          house.state(0, "mix", 10), house.wrong("week"), house.night],
+                         [None, "stale", (10, 11, 12), None, "half", (10,), 13])
+        self.assertEqual([house.sleep(5), house.wrong("mix"), house.state(0, "lag", 17), house.state(0, "lag", 24), house.undo(),
+                          house.night], [None, (10, 11, 12, 13, 14, 15, 16, 17, 18), "right", "missing", True, 13])
+        self.refuses(NotYet, {"value": 14}, house.correct, "sales", 14)
+
+    def test_papers(self):
+        weeks = Cycle(7)
+        pair, sums = pair_web(weeks), sums_web(weeks)
+        self.assertEqual(hung_paper(pair, "sales", 3),
+                         ("hung", (("a", ((1, ()), 3, (3, 10), 11, (1, ()))), ("sales", ((1, ()), 3, (3,), 4, (1, ()))))))
+        self.assertEqual([way_paper(pair, "sales", 3, "a", 10), way_paper(pair, "sales", 3, "a", 9)[0]],
+                         [("way", (("sales", 3), ("a", 10))), "apart"])
+        self.assertEqual(sound_paper(sums)[1][1], ("total", (1, 1, 1, 1, 1, 1, 1)))
+        rule = Rule(total=2, week=2, lag=2, mix="all")
+        self.assertEqual(settled_paper(example_web(weeks), rule, None, "sales", 10, 2)[3], (("mix", ((1, ()), 10, (10,), 11, (1, ()))),))
 
 
 if __name__ == "__main__":

@@ -17,10 +17,10 @@ BUILTINS = {"len", "range", "enumerate", "zip", "min", "max", "sum", "abs", "sor
             "dict", "isinstance", "any", "all", "iter", "ValueError", "TypeError", "NotImplemented", "property", "classmethod",
             "staticmethod", "True", "False", "None"}
 METHODS = {"append", "count", "extend", "get", "index", "isalpha", "isascii", "isdigit", "islower", "items", "join", "pop",
-           "split", "startswith", "removeprefix", "bit_length", "values", "setdefault"}
+           "split", "startswith", "removeprefix", "bit_length", "values", "setdefault", "replace"}
 SPECIAL = {"__init__", "__eq__", "__str__", "__len__", "__call__", "__iter__", "__lt__", "__le__", "__gt__", "__ge__", "__add__",
            "__radd__", "__sub__", "__and__", "__or__", "__xor__", "__mod__", "__rmod__", "__floordiv__", "__rfloordiv__",
-           "__invert__", "__bool__", "__contains__", "__getitem__"}
+           "__invert__", "__bool__", "__contains__", "__getitem__", "__iadd__", "__enter__", "__exit__"}
 LIBRARY = {"math": {"lcm", "gcd"}}
 BARRED = {"register", "mro", "elements", "open", "input", "law", "version_info", "with_traceback", "add_note", "attrgetter",
           "breakpoint", "compile", "copyright", "credits", "delattr", "dir", "eval", "exec", "exit", "gc", "globals", "help", "id",
@@ -28,7 +28,7 @@ BARRED = {"register", "mro", "elements", "open", "input", "law", "version_info",
           "sort", "args", "format", "_cold", "_tuplegetter", "_outside", "_record", "_written_out", "_member_names"}
 WORDS = re.compile(r"\b(type|typing|typing_extensions|enum|Enum|IntEnum|StrEnum|Flag|IntFlag|Generic|Protocol|ABC|ABCMeta|"
                    r"namedtuple|NamedTuple|TypedDict|TYPE_CHECKING|abstractmethod)\b|dataclass|overload|contextmanager|_wall")
-NOT_LET = (ast.AugAssign, ast.Set, ast.SetComp, ast.GeneratorExp, ast.Lambda, ast.Try, ast.With, ast.Global, ast.Nonlocal,
+NOT_LET = (ast.AugAssign, ast.Set, ast.SetComp, ast.GeneratorExp, ast.Lambda, ast.Global, ast.Nonlocal,
            ast.AsyncFunctionDef, ast.Await, ast.NamedExpr, ast.Match, ast.Delete, ast.Assert, ast.AnnAssign, ast.Import,
            ast.YieldFrom, ast.Div, ast.MatMult)
 
@@ -41,6 +41,11 @@ def functions(tree):
 def classes(tree):
     """All classes of a tree."""
     return [node for node in tree.body if isinstance(node, ast.ClassDef)]
+
+
+def mark_of(function):
+    """The word of the decorator of a function, "plain" without one; a setter's has a dot."""
+    return ast.unparse(function.decorator_list[0]) if function.decorator_list else "plain"
 
 
 def bound(function):
@@ -157,10 +162,56 @@ class Trees(unittest.TestCase):
     def test_decorators(self):
         for tree in TREES.values():
             for function in functions(tree):
-                for decorator in function.decorator_list:
-                    self.assertIn(decorator.id, ("property", "classmethod", "staticmethod"))
+                self.assertLessEqual(len(function.decorator_list), 1)
+                self.assertIn(mark_of(function), ("plain", "property", "classmethod", "staticmethod", f"{function.name}.setter"))
                 nested = [node for node in ast.walk(function) if isinstance(node, ast.FunctionDef) and node is not function]
                 self.assertEqual(nested, [])
+
+    def test_setters(self):
+        shown, set_too = {}, {}
+        for tree in TREES.values():
+            for item in classes(tree):
+                marks = {(function.name, mark_of(function)) for function in functions(item)}
+                for name, mark in marks:
+                    if mark == "property":
+                        shown.setdefault(name, set()).add(item.name)
+                    if mark.endswith(".setter"):
+                        self.assertIn((name, "property"), marks)
+                        set_too.setdefault(name, set()).add(item.name)
+        # A property that is assigned has its setter in each class that has it.
+        for name in set_too:
+            self.assertEqual(set_too[name], shown[name])
+
+    def test_blocks_that_are_left(self):
+        ends = 0
+        for name, tree in TREES.items():
+            for node in ast.walk(tree):
+                if isinstance(node, ast.With):
+                    self.assertTrue(all(isinstance(item.context_expr, ast.Call) for item in node.items), name)
+            for function in functions(tree):
+                if function.name != "__exit__":
+                    continue
+                ends += 1
+                for row in function.body:
+                    self.assertIsInstance(row, ast.Assign, name)
+                    self.assertIsInstance(row.targets[0], (ast.Name, ast.Attribute), name)
+                    self.assertIsInstance(row.value, (ast.Name, ast.Attribute), name)
+                for node in ast.walk(function):
+                    if isinstance(node, ast.Attribute):
+                        self.assertNotIn(node.attr, ("keys", "args"), name)
+        self.assertGreater(ends, 0)
+
+    def test_errors_that_are_caught(self):
+        own = {item.name for item in classes(TREES["errors"])}
+        for name, tree in TREES.items():
+            for node in ast.walk(tree):
+                if isinstance(node, ast.Try):
+                    self.assertFalse(node.finalbody or node.orelse, name)
+                    for handler in node.handlers:
+                        self.assertIn(handler.type.id, own, name)
+                if isinstance(node, ast.Raise):
+                    self.assertIsInstance(node.exc, ast.Call, name)
+                    self.assertIn(node.exc.func.id, own | {"TypeError"}, name)
 
     def test_builtins(self):
         known = set(dir(builtins))
@@ -187,8 +238,7 @@ class Trees(unittest.TestCase):
         for tree in TREES.values():
             for item in classes(tree):
                 for function in functions(item):
-                    marks = [decorator.id for decorator in function.decorator_list]
-                    methods.setdefault(function.name, set()).add(marks[0] if marks else "plain")
+                    methods.setdefault(function.name, set()).add(mark_of(function).replace(f"{function.name}.setter", "property"))
                 for node in ast.walk(item):
                     if isinstance(node, ast.Attribute) and isinstance(node.ctx, ast.Store):
                         fields.add(node.attr)
@@ -201,7 +251,7 @@ class Trees(unittest.TestCase):
         for name, tree in TREES.items():
             for node in ast.walk(tree):
                 if isinstance(node, ast.Attribute):
-                    self.assertIn(node.attr, METHODS | fields | set(methods) | shown, (name, node.lineno))
+                    self.assertIn(node.attr, METHODS | fields | set(methods) | shown | {"setter"}, (name, node.lineno))
                     self.assertNotIn(node.attr, BARRED)
 
     def test_calls_of_builtins(self):
@@ -227,7 +277,8 @@ class Trees(unittest.TestCase):
     def test_classes(self):
         for name, tree in TREES.items():
             for item in classes(tree):
-                names = [function.name for function in item.body if isinstance(function, ast.FunctionDef)]
+                names = [function.name for function in item.body
+                         if isinstance(function, ast.FunctionDef) and not mark_of(function).endswith(".setter")]
                 self.assertEqual(len(names), len(set(names)), item.name)
                 if "__getitem__" in names:
                     self.assertIn("__iter__", names)
