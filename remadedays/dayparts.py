@@ -16,8 +16,8 @@ def rests_of(pattern):
     return (pattern[0], places_of(pattern[1]))
 
 
-def line_of_parts(parts):
-    """The line that these parts tell; None for a value that is no parts of a set."""
+def line_of_parts(parts, most):
+    """The line that these parts tell, with a middle of at most so many days; None for a value that is no such parts."""
     if not isinstance(parts, tuple) or len(parts) != 5:
         return None
     left, low, days, high, right = parts
@@ -25,7 +25,7 @@ def line_of_parts(parts):
         return None
     if low is None:
         line = whole_line(pattern_of(left))
-    elif is_middle(low, days, high):
+    elif is_middle(low, days, high, most):
         middle = mask_of([day - low for day in days])
         line = line_of(pattern_of(left), low, middle, high, pattern_of(right))
     else:
@@ -42,11 +42,11 @@ def is_rests(pair):
     return is_between(period, 1, MOST_DAYS) and is_ascending(rests, 0, period)
 
 
-def is_middle(low, days, high):
-    """Whether these are the bounds of a middle and its ascending days."""
+def is_middle(low, days, high, most):
+    """Whether these are the bounds of a middle of at most so many days, and its ascending days."""
     if not is_whole(low) or not is_whole(high):
         return False
-    return 0 <= high - low <= MOST_DAYS and is_ascending(days, low, high)
+    return 0 <= high - low <= most and is_ascending(days, low, high)
 
 
 def is_ascending(values, low, high):

@@ -71,7 +71,7 @@ class Days:
     @classmethod
     def from_parts(cls, parts):
         """The set that tells these parts."""
-        line = line_of_parts(parts)
+        line = line_of_parts(parts, Days.MOST)
         if line is None:
             raise BadParts(parts)
         return cls(line)

@@ -224,3 +224,12 @@ def take_tie(words):
     if kind == "last":
         return Last(source)
     return Same(source)
+
+
+def take_ties(words):
+    """The list of the ties that the words of a line tell, each behind the word from, to its end."""
+    ties = []
+    while not words.is_over():
+        words.take_one_of(("from",))
+        ties.append(take_tie(words))
+    return ties

@@ -5,16 +5,20 @@ from remadedays.again import again, again_count
 from remadedays.alike import parted
 from remadedays.cycles import Cycle
 from remadedays.days import Days
-from remadedays.errors import BadNumber, BadText, InUse, NotYet, NoTable, TooShort, Unsound
+from remadedays.desk import Desk
+from remadedays.errors import BadLine, BadNumber, BadText, InUse, NotYet, NoTable, TooShort, Unsound
 from remadedays.explained import explained
 from remadedays.house import House
 from remadedays.hung import hung, roots, way
 from remadedays.lateness import least_rule, stands
+from remadedays.looker import shows_hung, shows_settled, shows_sound, shows_way
 from remadedays.lots import listed, lots
 from remadedays.papers import hung_paper, settled_paper, sound_paper, way_paper
+from remadedays.reader import read_web
 from remadedays.rings import heights, ring
 from remadedays.rules import Keeping, Rule
 from remadedays.settled import settled
+from remadedays.texts import web_text
 from remadedays.ties import Ahead, Back, Last, Same, Sofar, Tie, Whole
 from remadedays.webs import Web
 from samples import Checked
@@ -182,14 +186,32 @@ class Examples(Checked):
 
     def test_papers(self):
         weeks = Cycle(7)
-        pair, sums = pair_web(weeks), sums_web(weeks)
-        self.assertEqual(hung_paper(pair, "sales", 3),
-                         ("hung", (("a", ((1, ()), 3, (3, 10), 11, (1, ()))), ("sales", ((1, ()), 3, (3,), 4, (1, ()))))))
-        self.assertEqual([way_paper(pair, "sales", 3, "a", 10), way_paper(pair, "sales", 3, "a", 9)[0]],
-                         [("way", (("sales", 3), ("a", 10))), "apart"])
-        self.assertEqual(sound_paper(sums)[1][1], ("total", (1, 1, 1, 1, 1, 1, 1)))
+        web, pair, sums = example_web(weeks), pair_web(weeks), sums_web(weeks)
         rule = Rule(total=2, week=2, lag=2, mix="all")
-        self.assertEqual(settled_paper(example_web(weeks), rule, None, "sales", 10, 2)[3], (("mix", ((1, ()), 10, (10,), 11, (1, ()))),))
+        self.assertEqual([hung_paper(pair, "sales", 3), shows_hung(pair, "sales", 3, hung_paper(pair, "sales", 3)),
+                          shows_hung(pair, "sales", 4, hung_paper(pair, "sales", 3))],
+                         [("hung", (("a", ((1, ()), 3, (3, 10), 11, (1, ()))), ("sales", ((1, ()), 3, (3,), 4, (1, ()))))), True, False])
+        self.assertEqual([way_paper(pair, "sales", 3, "a", 10), shows_way(pair, "sales", 3, "a", 10, ("way", (("sales", 3), ("a", 10)))),
+                          way_paper(pair, "sales", 3, "a", 9)[0]], [("way", (("sales", 3), ("a", 10))), True, "apart"])
+        self.assertEqual([sound_paper(sums)[1][1], shows_sound(sums, sound_paper(sums)),
+                          shows_settled(web, rule, None, "sales", 10, 2, settled_paper(web, rule, None, "sales", 10, 2))],
+                         [("total", (1, 1, 1, 1, 1, 1, 1)), True, True])
+
+    def test_texts(self):
+        pair = pair_web(Cycle(7))
+        self.assertEqual(web_text(pair), "cycle 7\ntable a from back 0 sales from back 7 sales\ntable sales")
+        self.assertEqual([read_web(web_text(pair)) == pair, Days.read("days 1 2 right 1 0 from 3") == Days.from_day(1),
+                          str(Days.read("left 2 0 until 4 days 6"))], [True, True, "left 2 0 until 7"])
+        self.refuses(BadText, {"line": 1, "word": 4}, read_web, "cycle 7\ntable a from ahead 0 b")
+
+    def test_desk(self):
+        desk = Desk()
+        self.assertEqual(desk.run("table sales", "table total from back 1 total from back 0 sales", "rule total 2", "hung sales 4", "stands",
+                                  "lots sales 0 100 2", "state sales 10 2 total 11"),
+                         ["ok", "ok", "ok", "sales days 4 ; total right 1 0 from 4", "1", "100", "stale"])
+        self.refuses(InUse, {"table": "sales"}, desk.run, "least 3", "undo", "least all", "settled sales 10 0", "sound", "drop sales")
+        self.assertEqual(desk.run("settled sales 10 1", "sound"), ["right sales days 10 ; total right 1 0 from 10 stale none half none", "sound"])
+        self.refuses(BadLine, {"word": 2}, desk.ask, "hung sales")
 
 
 if __name__ == "__main__":
