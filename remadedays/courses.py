@@ -47,6 +47,6 @@ class Course:
         found = []
         for near, values in spread.rows_of_tables()[table]:
             day = near + self._far
-            due = max(0, (night - rounds.due_of(table, day)) // rounds.turn + 1)
+            due = (night - rounds.due_of(table, day)) // rounds.turn + 1
             found.extend([day + at * rounds.turn for at, value in enumerate(values[:due]) if value >= least])
         return found

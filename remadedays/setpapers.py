@@ -29,7 +29,7 @@ def lines_of_sets(web, many):
 
 def lines_of_records(web, parts):
     """A dict of the lines of the set of records of a web with these parts, by table; None for any other value."""
-    if not isinstance(parts, tuple) or len(parts) > len(web):
+    if not isinstance(parts, tuple):
         return None
     lines = {}
     # Each name is above the empty one.

@@ -8,7 +8,7 @@ from remadedays.rules import Keeping, Rule
 from remadedays.settled import settled
 from remadedays.texts import web_text
 from remadedays.webs import Web
-from test_texts import ties_of
+from textmodel import ties_of
 
 
 class Told:

@@ -112,7 +112,9 @@ def is_way(web, records, first, last):
 
 def is_record(web, record):
     """Whether a value is a pair of a table and an integer."""
-    return type(record) is tuple and len(record) == 2 and type(record[0]) is str and record[0] in web.tables and type(record[1]) is int
+    if type(record) is not tuple or len(record) != 2:
+        return False
+    return type(record[0]) is str and record[0] in web.tables and type(record[1]) is int
 
 
 def is_ring(web, records):

@@ -30,7 +30,8 @@ def some_line(rng, web):
     if word == "cycle":
         return "cycle " + " ".join(map(str, rng.choice([(7,), (2, 3), (1, 4), (3, 1), (60, 1), (1,) * 13, (5, 2)])))
     if word == "table":
-        ties = [rng.choice([Back(one, rng.randint(0, 9)), Sofar(one), Whole(one), Last(one), Same(one), Back(one, 1), Ahead(one, rng.randint(1, 3))])
+        ties = [rng.choice([Back(one, rng.randint(0, 9)), Sofar(one), Whole(one), Last(one), Same(one), Back(one, 1),
+                            Ahead(one, rng.randint(1, 3))])
                 for one in rng.choices(names, k=rng.choice([0, 0, 1, 1, 2, 3]))]
         return "".join([f"table {name}", *[f" from {tie}" for tie in ties]])
     if word in ("rule", "keep"):
@@ -114,17 +115,28 @@ class Lines(Checked):
             self.refuses(BadLine, {"word": 0}, desk.ask, value)
             self.refuses(BadLine, {"word": 0}, desk, value)
             self.refuses(BadLine, {"word": 0}, desk.run, "rule a 3", value)
-        for line, word in (("", 0), (" ", 0), ("\n", 0), ("show\n", 0), (" show", 0), ("show ", 1), ("show a", 1), ("undo 1", 1), ("undo undo", 1),
-                           ("sound a", 1), ("stands 1", 1), ("Show", 0), ("from back 0 g", 0), ("keeps a 1", 0), ("a", 0), ("all", 0), ("none", 0),
-                           ("cycle", 1), ("cycle 7 ", 2), ("cycle 0", 1), ("cycle 7 61", 2), ("cycle 7\n", 1), ("table", 1), ("table G", 1),
-                           ("table b from", 3), ("table b from back 61 g", 4), ("table b back 0 g", 2), ("table b from same g\n", 4),
-                           ("drop", 1), ("drop a g", 2), ("drop abcdefghi", 1), ("rule", 1), ("rule a", 2), ("rule a 4001", 2), ("rule a -1", 2),
-                           ("rule a 01", 2), ("rule a none", 2), ("rule a 4000 b", 3), ("rule a 1 ", 3), ("keep a", 2), ("keep 1 a", 1), ("keep a all all", 3),
-                           ("hung", 1), ("hung g", 2), ("hung g +1", 2), ("hung g -0", 2), ("hung g 1 1", 3), ("hung g 1" + "0" * 60, 2),
-                           ("hung g -1" + "0" * 60, 2), ("hung g 3\n", 2), ("roots g x", 2), ("settled g 0", 3), ("settled g 0 -1", 3),
-                           ("settled g 0 1" + "0" * 60, 3), ("settled g 0 1 1", 4), ("state g 0 0", 4), ("state g 0 0 a", 5), ("state g 0 0 1 a", 4),
-                           ("state g 0 0 a 0 0", 6), ("least", 1), ("least -1", 1), ("least none", 1), ("least 1 2", 2), ("least all all", 2),
-                           ("lots g 0 1", 4), ("lots g 0 1 -2", 4), ("lots g 0 x 2", 3), ("lots g 0 1 2 3", 5), ("settled g  0", 2)):
+        for line, word in (("", 0), (" ", 0), ("\n", 0), ("show\n", 0), (" show", 0), ("show ", 1), ("show a", 1),
+                           ("undo 1", 1), ("undo undo", 1),
+                           ("sound a", 1), ("stands 1", 1), ("Show", 0), ("from back 0 g", 0), ("keeps a 1", 0), ("a", 0),
+                           ("all", 0), ("none", 0),
+                           ("cycle", 1), ("cycle 7 ", 2), ("cycle 0", 1), ("cycle 7 61", 2), ("cycle 7\n", 1), ("table", 1),
+                           ("table G", 1),
+                           ("table b from", 3), ("table b from back 61 g", 4), ("table b back 0 g", 2),
+                           ("table b from same g\n", 4),
+                           ("drop", 1), ("drop a g", 2), ("drop abcdefghi", 1), ("rule", 1), ("rule a", 2), ("rule a 4001", 2),
+                           ("rule a -1", 2),
+                           ("rule a 01", 2), ("rule a none", 2), ("rule a 4000 b", 3), ("rule a 1 ", 3), ("keep a", 2),
+                           ("keep 1 a", 1), ("keep a all all", 3),
+                           ("hung", 1), ("hung g", 2), ("hung g +1", 2), ("hung g -0", 2), ("hung g 1 1", 3),
+                           ("hung g 1" + "0" * 60, 2),
+                           ("hung g -1" + "0" * 60, 2), ("hung g 3\n", 2), ("roots g x", 2), ("settled g 0", 3),
+                           ("settled g 0 -1", 3),
+                           ("settled g 0 1" + "0" * 60, 3), ("settled g 0 1 1", 4), ("state g 0 0", 4), ("state g 0 0 a", 5),
+                           ("state g 0 0 1 a", 4),
+                           ("state g 0 0 a 0 0", 6), ("least", 1), ("least -1", 1), ("least none", 1), ("least 1 2", 2),
+                           ("least all all", 2),
+                           ("lots g 0 1", 4), ("lots g 0 1 -2", 4), ("lots g 0 x 2", 3), ("lots g 0 1 2 3", 5),
+                           ("settled g  0", 2)):
             self.assertEqual(wrong_in_line(line), word)
             self.refuses(BadLine, {"word": word}, desk.ask, line)
             self.refuses(BadLine, {"word": word}, desk, line=line)
@@ -135,12 +147,18 @@ class Lines(Checked):
         desk.run("table g", "table a from back 2 g", "keep g 2", "rule a 3")
         before = told(desk)
         for line, kind, attributes in (
-                ("hung b 0", NoTable, {"table": "b"}), ("roots b 0", NoTable, {"table": "b"}), ("drop b", NoTable, {"table": "b"}),
-                ("drop g", InUse, {"table": "g"}), ("table b from last c", NoTable, {"table": "c"}), ("table b" + " from same g" * 7, TooMany, {"what": "ties", "most": 6}),
-                ("cycle 60 1", TooMany, {"what": "days", "most": 60}), ("cycle" + " 1" * 13, TooMany, {"what": "blocks", "most": 12}),
-                ("settled a 0 0", NotGround, {"table": "a"}), ("settled g 0 1001", BadNumber, {"value": 1001}), ("settled b 0 1001", NoTable, {"table": "b"}),
-                ("state g 0 1001 b 0", BadNumber, {"value": 1001}), ("state g 0 0 b 0", NoTable, {"table": "b"}), ("state a 0 0 b 0", NotGround, {"table": "a"}),
-                ("least 4000", BadNumber, {"value": 4000}), ("lots g 0 0 0", BadNumber, {"value": 0}), ("lots a 0 0 0", NotGround, {"table": "a"})):
+                ("hung b 0", NoTable, {"table": "b"}), ("roots b 0", NoTable, {"table": "b"}),
+                                       ("drop b", NoTable, {"table": "b"}),
+                ("drop g", InUse, {"table": "g"}), ("table b from last c", NoTable, {"table": "c"}),
+                                       ("table b" + " from same g" * 7, TooMany, {"what": "ties", "most": 6}),
+                ("cycle 60 1", TooMany, {"what": "days", "most": 60}), ("cycle" + " 1" * 13, TooMany,
+                                                                        {"what": "blocks", "most": 12}),
+                ("settled a 0 0", NotGround, {"table": "a"}), ("settled g 0 1001", BadNumber, {"value": 1001}),
+                                       ("settled b 0 1001", NoTable, {"table": "b"}),
+                ("state g 0 1001 b 0", BadNumber, {"value": 1001}), ("state g 0 0 b 0", NoTable, {"table": "b"}),
+                                       ("state a 0 0 b 0", NotGround, {"table": "a"}),
+                ("least 4000", BadNumber, {"value": 4000}), ("lots g 0 0 0", BadNumber, {"value": 0}),
+                                       ("lots a 0 0 0", NotGround, {"table": "a"})):
             self.refuses(kind, attributes, desk.ask, line)
             self.refuses(kind, attributes, desk.run, "rule g 1", "undo", "keep g 7", line, "show")
             self.assertEqual(told(desk), before)
@@ -162,7 +180,8 @@ class Words(Checked):
         desk = Desk()
         self.assertEqual(told(desk), (Web(Cycle(7)), Rule(), Keeping(), 0))
         self.assertEqual(desk.run(), [])
-        self.assertEqual(desk.run("show", "sound", "undo", "stands", "least all", "least 5"), ["cycle 7", "sound", "nothing", "all", "none", "none"])
+        self.assertEqual(desk.run("show", "sound", "undo", "stands", "least all", "least 5"),
+                         ["cycle 7", "sound", "nothing", "all", "none", "none"])
         for name in ("web", "rule", "keeping"):
             self.assertIsInstance(vars(Desk)[name], property)
             with self.assertRaises(AttributeError):
@@ -171,7 +190,8 @@ class Words(Checked):
 
     def test_each_line(self):
         desk = Desk()
-        self.assertEqual(desk.run("table s", "table t from back 1 t from back 0 s", "table w from sofar s", "rule t 2", "rule w all", "keep s 9"),
+        self.assertEqual(desk.run("table s", "table t from back 1 t from back 0 s", "table w from sofar s", "rule t 2",
+                                  "rule w all", "keep s 9"),
                          ["ok"] * 6)
         self.assertEqual(len(desk), 6)
         for line, answer in (("show", "cycle 7 ; table s ; table t from back 1 t from back 0 s ; table w from sofar s"),
@@ -179,7 +199,8 @@ class Words(Checked):
                              ("roots w 8", "s days 7 8 ; w days 8"), ("hung w 8", "w days 8"), ("sound", "sound"),
                              ("settled s 5 1", "right s days 5 ; t right 1 0 from 5 ; w days 5 6 stale none half none"),
                              ("settled s 5 2", "right s days 5 ; w days 5 6 stale t right 1 0 from 5 half none"),
-                             ("state s 5 2 t 5", "stale"), ("state s 5 2 w 5", "right"), ("state s 5 2 w 7", "clear"), ("state s 5 2 t 4", "clear"),
+                             ("state s 5 2 t 5", "stale"), ("state s 5 2 w 5", "right"), ("state s 5 2 w 7", "clear"),
+                             ("state s 5 2 t 4", "clear"),
                              ("stands", "1"), ("least 4", "t 5 w 5"), ("least all", "t all w all"), ("least 0", "t 1 w 1"),
                              ("lots s 0 10 1", "never"), ("lots s 0 10 2", "17"), ("lots s 0 0 1000", "1"),
                              ("hung s " + "9" * 60, f"s days {FAR} ; t right 1 0 from {FAR} ; w days " + " ".join(
@@ -200,20 +221,23 @@ class Words(Checked):
         self.assertEqual(desk.run("settled s 3 1", "state s 3 1 b 3", "stands"),
                          ["right s days 3 stale a days 3 half b days 3", "half", "-1"])
         self.assertEqual(desk.run("table s from ahead 1 b", "sound", "table s from back 3 b from ahead 9 a", "sound"),
-                         ["ok", "ring b 0 s 0 b 1 s 1 b 2 s 2 b 3 s 3 b 4 s 4 b 5 s 5 b 6 s 6 b 7", "ok", "ring a 0 s 0 b -3 s -3 b -6 s -6 b -9 s -9 a 0"])
+                         ["ok", "ring b 0 s 0 b 1 s 1 b 2 s 2 b 3 s 3 b 4 s 4 b 5 s 5 b 6 s 6 b 7", "ok",
+                          "ring a 0 s 0 b -3 s -3 b -6 s -6 b -9 s -9 a 0"])
 
     def test_names_that_are_words(self):
         desk = Desk()
         desk.run("table all", "table undo from same all", "table from from last undo",
                  "rule from all", "keep all all", "rule all 3", "table cycle", "table self from sofar cycle")
-        self.assertEqual(desk.ask("show"), "cycle 7 ; table all ; table cycle ; table from from last undo ; table self from sofar cycle ; "
+        self.assertEqual(desk.ask("show"),
+                         "cycle 7 ; table all ; table cycle ; table from from last undo ; table self from sofar cycle ; "
                                            "table undo from same all")
         self.assertEqual(desk.run("hung all 6", "drop self", "drop cycle", "undo", "undo", "undo"),
                          ["all days 6 ; from days 14 15 16 17 18 19 20 ; undo days 13", "ok", "ok", "ok", "ok", "ok"])
 
     def test_undo(self):
         desk = Desk()
-        lines = ["table g", "cycle 2 3", "table a from last g", "rule a 3", "keep g 9", "rule a 3", "table a from last g", "cycle 2 3", "drop a", "rule a all"]
+        lines = ["table g", "cycle 2 3", "table a from last g", "rule a 3", "keep g 9", "rule a 3", "table a from last g",
+                 "cycle 2 3", "drop a", "rule a all"]
         states = [told(desk)]
         for line in lines:
             self.assertEqual(desk.ask(line), "ok")
@@ -232,7 +256,8 @@ class Words(Checked):
         desk = Desk()
         desk.run("table g", "rule g 1")
         before = told(desk)
-        for lines in (("undo", "undo", "undo", "drop g"), ("rule g 2", "keep g 3", "show", 5), ("table h", "drop h", "undo", "hung g"),
+        for lines in (("undo", "undo", "undo", "drop g"), ("rule g 2", "keep g 3", "show", 5),
+                      ("table h", "drop h", "undo", "hung g"),
                       ("undo", "undo", "table a", "x"), ("drop g", "hung g 0")):
             with self.assertRaises(DayError):
                 desk.run(*lines)

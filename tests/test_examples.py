@@ -64,7 +64,8 @@ class Examples(Checked):
         self.refuses(BadNumber, {"value": 4001}, Days.every, 4001, 0)
 
     def test_texts_of_days(self):
-        self.assertEqual([Days.read("days 1 2 right 1 0 from 3") == Days.from_day(1), str(Days.read("left 2 0 until 4 days 6"))],
+        self.assertEqual([Days.read("days 1 2 right 1 0 from 3") == Days.from_day(1),
+                          str(Days.read("left 2 0 until 4 days 6"))],
                          [True, "left 2 0 until 7"])
         self.refuses(BadText, {"line": 0, "word": 3}, Days.read, "every 7 3 3")
 
@@ -119,7 +120,8 @@ class Examples(Checked):
 
     def test_rules(self):
         rule = Rule(total=2, week=2, lag=2, mix="all")
-        self.assertEqual([rule["total"], rule["sales"], Keeping()["sales"], rule.told, str(rule), rule <= rule.put("lag", "all"),
+        self.assertEqual([rule["total"], rule["sales"], Keeping()["sales"], rule.told, str(rule),
+                          rule <= rule.put("lag", "all"),
                           Rule.read("a 0 b all") == Rule(b="all")],
                          [2, 0, "all", ("lag", "mix", "total", "week"), "lag 2 mix all total 2 week 2", True, True])
 
@@ -150,7 +152,8 @@ class Examples(Checked):
         weeks = Cycle(7)
         web, pair = example_web(weeks), pair_web(weeks)
         rule = Rule(total=2, week=2, lag=2, mix="all")
-        self.assertEqual([stands(web, rule).nights, stands(web, rule).beyond, str(least_rule(web, 5)), str(least_rule(web, None))],
+        self.assertEqual([stands(web, rule).nights, stands(web, rule).beyond, str(least_rule(web, 5)),
+                          str(least_rule(web, None))],
                          [1, ("sales", 0, 2, ("total", 0), ("old",)), "mix 6 total 6 week 6",
                           "lag all mix all total all week all"])
         self.assertEqual([stands(pair, Rule(a="all"), Keeping(sales=7)).beyond, stands(web, least_rule(web, 5)).nights,
@@ -172,7 +175,8 @@ class Examples(Checked):
 
     def test_explained(self):
         web = example_web(Cycle(7))
-        self.assertEqual([str(explained(web, [("week", 12), ("total", 9)])), str(explained(web, [("week", 12)], [("week", 10)])),
+        self.assertEqual([str(explained(web, [("week", 12), ("total", 9)])),
+                          str(explained(web, [("week", 12)], [("week", 10)])),
                           str(explained(web, [("lag", 9), ("week", 9)]))], ["sales days 7 8 9", "sales days 11 12", "none"])
 
     def test_house(self):
@@ -180,7 +184,8 @@ class Examples(Checked):
         self.assertEqual([house.correct("sales", 10), house.state(0, "total", 10), house.wrong("week"), house.sleep(),
                           house.state(0, "mix", 10), house.wrong("week"), house.night],
                          [None, "stale", (10, 11, 12), None, "half", (10,), 13])
-        self.assertEqual([house.sleep(5), house.wrong("mix"), house.state(0, "lag", 17), house.state(0, "lag", 24), house.undo(),
+        self.assertEqual([house.sleep(5), house.wrong("mix"), house.state(0, "lag", 17), house.state(0, "lag", 24),
+                          house.undo(),
                           house.night], [None, (10, 11, 12, 13, 14, 15, 16, 17, 18), "right", "missing", True, 13])
         self.refuses(NotYet, {"value": 14}, house.correct, "sales", 14)
 
@@ -190,8 +195,10 @@ class Examples(Checked):
         rule = Rule(total=2, week=2, lag=2, mix="all")
         self.assertEqual([hung_paper(pair, "sales", 3), shows_hung(pair, "sales", 3, hung_paper(pair, "sales", 3)),
                           shows_hung(pair, "sales", 4, hung_paper(pair, "sales", 3))],
-                         [("hung", (("a", ((1, ()), 3, (3, 10), 11, (1, ()))), ("sales", ((1, ()), 3, (3,), 4, (1, ()))))), True, False])
-        self.assertEqual([way_paper(pair, "sales", 3, "a", 10), shows_way(pair, "sales", 3, "a", 10, ("way", (("sales", 3), ("a", 10)))),
+                         [("hung", (("a", ((1, ()), 3, (3, 10), 11, (1, ()))), ("sales", ((1, ()), 3, (3,), 4, (1, ()))))),
+                          True, False])
+        self.assertEqual([way_paper(pair, "sales", 3, "a", 10), shows_way(pair, "sales", 3, "a", 10,
+                                                                          ("way", (("sales", 3), ("a", 10)))),
                           way_paper(pair, "sales", 3, "a", 9)[0]], [("way", (("sales", 3), ("a", 10))), True, "apart"])
         self.assertEqual([sound_paper(sums)[1][1], shows_sound(sums, sound_paper(sums)),
                           shows_settled(web, rule, None, "sales", 10, 2, settled_paper(web, rule, None, "sales", 10, 2))],
@@ -206,11 +213,14 @@ class Examples(Checked):
 
     def test_desk(self):
         desk = Desk()
-        self.assertEqual(desk.run("table sales", "table total from back 1 total from back 0 sales", "rule total 2", "hung sales 4", "stands",
+        self.assertEqual(desk.run("table sales", "table total from back 1 total from back 0 sales", "rule total 2",
+                                  "hung sales 4", "stands",
                                   "lots sales 0 100 2", "state sales 10 2 total 11"),
                          ["ok", "ok", "ok", "sales days 4 ; total right 1 0 from 4", "1", "100", "stale"])
-        self.refuses(InUse, {"table": "sales"}, desk.run, "least 3", "undo", "least all", "settled sales 10 0", "sound", "drop sales")
-        self.assertEqual(desk.run("settled sales 10 1", "sound"), ["right sales days 10 ; total right 1 0 from 10 stale none half none", "sound"])
+        self.refuses(InUse, {"table": "sales"}, desk.run, "least 3", "undo", "least all", "settled sales 10 0", "sound",
+                     "drop sales")
+        self.assertEqual(desk.run("settled sales 10 1", "sound"),
+                         ["right sales days 10 ; total right 1 0 from 10 stale none half none", "sound"])
         self.refuses(BadLine, {"word": 2}, desk.ask, "hung sales")
 
 

@@ -128,10 +128,12 @@ class Refused(Checked):
                 for changed, unchanged in (([(value, None)], [("no", None)]), ([("a", 1), (value, 0), ("b", None)], []),
                                            ([], [("b", 1), (value, 0)]), ([("a", 3)], [(value, None)])):
                     self.refuses(NoTable, {"table": value}, explained, web, changed, unchanged)
-                    self.refuses(NoTable, {"table": value}, explained, unchanged=tuple(unchanged), web=web, changed=tuple(changed))
+                    self.refuses(NoTable, {"table": value}, explained, unchanged=tuple(unchanged), web=web,
+                                 changed=tuple(changed))
             for value in NOT_DAYS:
                 for changed, unchanged in (([("b", value)], [("no", 0)]), ([("a", 1), ("a", value), ("no", 0)], []),
-                                           ([], [("b", 1), ("a", value), ("no", 0)]), ([("a", 3)], [("b", value), ("b", None)])):
+                                           ([], [("b", 1), ("a", value), ("no", 0)]),
+                                           ([("a", 3)], [("b", value), ("b", None)])):
                     self.refuses(BadDay, {"value": value}, explained, web, changed, unchanged)
         self.refuses(NoTable, {"table": "no"}, explained, self.web, [("no", 0)])
 

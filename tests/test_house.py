@@ -76,7 +76,8 @@ class Words(Checked):
         self.assertIs(type(house.wrong("a")), tuple)
 
     def test_first_night_and_keeping(self):
-        self.assertEqual([House(WEB, RULE).night, House(WEB, RULE, None).night, House(WEB, RULE, Keeping(), -5).night], [0, 0, -5])
+        self.assertEqual([House(WEB, RULE).night, House(WEB, RULE, None).night, House(WEB, RULE, Keeping(), -5).night],
+                         [0, 0, -5])
         house = House(night=FAR, keeping=Keeping(g=0), rule=Rule(a="all"), web=WEB)
         house.correct("g", FAR)
         house.sleep()

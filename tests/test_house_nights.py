@@ -168,7 +168,8 @@ class Nights(Checked):
         for name in "ab":
             for day in range(-5, 1401):
                 self.assertEqual(house.state(0, name, day), lived.get((name, day), "clear"), (name, day))
-            self.assertEqual(house.wrong(name), tuple(day for day in range(1401) if lived.get((name, day)) in ("stale", "half")))
+            self.assertEqual(house.wrong(name), tuple(day for day in range(1401) if lived.get((name, day)) in ("stale",
+                                                                                                               "half")))
         self.assertGreater(len({*lived.values()}), 2)
 
 
@@ -184,7 +185,8 @@ class Steps(Checked):
         house.sleep(0)
         self.assertEqual(house.state(0, "a", 5), "stale")
         house.sleep()
-        self.assertEqual([house.state(0, "a", 5), house.state(0, "b", 7), house.wrong("a"), house.wrong("b")], ["stale", "stale", (5,), (7,)])
+        self.assertEqual([house.state(0, "a", 5), house.state(0, "b", 7), house.wrong("a"), house.wrong("b")],
+                         ["stale", "stale", (5,), (7,)])
         house.undo()
         house.undo()
         house.undo()

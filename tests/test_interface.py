@@ -22,17 +22,22 @@ FUNCTIONS = {
     "reader": {"read_web": "text"},
 }
 METHODS = {
-    ("days", "Days"): {"of": "days", "every": "period, *rests", "from_day": "day", "until": "day", "none": "", "always": "", "any_of": "*many",
-                       "from_parts": "parts", "count": "a, b", "after": "day", "before": "day", "within": "a, b", "forward": "day",
+    ("days", "Days"): {"of": "days", "every": "period, *rests", "from_day": "day", "until": "day", "none": "", "always": "",
+                       "any_of": "*many",
+                       "from_parts": "parts", "count": "a, b", "after": "day", "before": "day", "within": "a, b",
+                       "forward": "day",
                        "backward": "day", "read": "text"},
-    ("cycles", "Cycle"): {"of": "lengths", "block": "day", "first": "day", "last": "day", "place": "day", "length": "day", "read": "text"},
+    ("cycles", "Cycle"): {"of": "lengths", "block": "day", "first": "day", "last": "day", "place": "day", "length": "day",
+                          "read": "text"},
     ("ties", "Tie"): {"sources": "day, cycle", "users": "day, cycle", "__call__": "day, cycle", "read": "text"},
-    ("webs", "Web"): {"of": "cycle, tables", "sources": "table, day", "users": "table, day", "put": "table, ties", "without": "table"},
+    ("webs", "Web"): {"of": "cycle, tables", "sources": "table, day", "users": "table, day", "put": "table, ties",
+                      "without": "table"},
     ("rings", "Heights"): {"due": "table, day", "key": "table, day"},
     ("rules", "Rule"): {"of": "nights", "put": "table, value", "read": "text"},
     ("rules", "Keeping"): {"of": "nights", "put": "table, value", "read": "text"},
     ("settled", "Settled"): {"state": "table, day"},
-    ("house", "House"): {"__init__": "web, rule, keeping=None, night=0", "sleep": "nights=1", "sleep_until": "night", "correct": "table, day",
+    ("house", "House"): {"__init__": "web, rule, keeping=None, night=0", "sleep": "nights=1", "sleep_until": "night",
+                         "correct": "table, day",
                          "state": "k, table, day", "wrong": "table", "undo": "", "trial": "", "tried": "work", "__len__": ""},
     ("desk", "Desk"): {"__init__": "", "ask": "line", "__call__": "line", "run": "*lines", "__len__": ""},
 }
@@ -51,18 +56,21 @@ PROPERTIES = {
     ("desk", "Desk"): "web rule keeping",
 }
 SIGNS = {
-    ("days", "Days"): "__and__ __or__ __xor__ __sub__ __invert__ __add__ __radd__ __le__ __lt__ __ge__ __gt__ __eq__ __contains__ __bool__ __str__",
+    ("days",
+     "Days"): "__and__ __or__ __xor__ __sub__ __invert__ __add__ __radd__ __le__ __lt__ __ge__ __gt__ __eq__ __contains__ __bool__ __str__",
     ("cycles", "Cycle"): "__len__ __iter__ __rmod__ __rfloordiv__ __eq__ __str__",
     ("webs", "Web"): "__getitem__ __contains__ __len__ __iter__ __or__ __eq__",
     ("rings", "Heights"): "__getitem__",
-    ("records", "Records"): "__getitem__ __contains__ __len__ __iter__ __bool__ __and__ __or__ __sub__ __le__ __lt__ __ge__ __gt__ __eq__ __str__",
+    ("records",
+     "Records"): "__getitem__ __contains__ __len__ __iter__ __bool__ __and__ __or__ __sub__ __le__ __lt__ __ge__ __gt__ __eq__ __str__",
     ("rules", "Rule"): "__getitem__ __le__ __lt__ __eq__ __and__ __or__ __str__",
     ("rules", "Keeping"): "__getitem__ __le__ __lt__ __eq__ __and__ __or__ __str__",
     ("settled", "Settled"): "__bool__",
     ("house", "House"): "__len__ __getitem__ __iadd__",
     ("desk", "Desk"): "__len__ __call__",
 }
-ERRORS = {"BadDay": "value", "BadNumber": "value", "BadName": "value", "BadTable": "value", "BadDays": "at", "BadCycle": "at", "BadTies": "table",
+ERRORS = {"BadDay": "value", "BadNumber": "value", "BadName": "value", "BadTable": "value", "BadDays": "at", "BadCycle": "at",
+          "BadTies": "table",
           "BadParts": "value", "NoTable": "table", "NotGround": "table", "InUse": "table", "Unlike": "part", "Unsound": "table",
           "TooShort": "table", "NotYet": "value", "TooMany": "what, most", "BadText": "line, word", "BadLine": "word"}
 

@@ -116,6 +116,21 @@ class Hung(Checked):
         for day in (0, 7, 14, 21, 28, 35, 7 * 10 ** 40):
             self.assertIs(shows_hung(ground, "g", day, ("hung", Records(turns).parts)), False)
 
+    def test_tables_without_a_day(self):
+        web = Web(WEEKS, a=[], g=[], z=[Back("a", 1)])
+        none, paper = Days.none().parts, hung_paper(web, "g", 3)
+        for other in ((("a", none), *paper[1]), (*paper[1], ("z", none)), (*paper[1], *paper[1]),
+                      (*paper[1], ("zz", paper[1][0][1]))):
+            self.assertIs(shows_hung(web, "g", 3, ("hung", other)), False)
+            self.assertIs(shows_way(web, "g", 3, "a", 3, ("apart", other)), False)
+            self.assertIs(shows_settled(web, Rule(), None, "g", 3, 0, ("settled", other, (), ())), False)
+        self.assertIs(shows_settled(web, Rule(), None, "g", 3, 0, ("settled", paper[1], (("a", none),), ())), False)
+        self.assertIs(shows_settled(web, Rule(), None, "g", 3, 0, ("settled", paper[1], (), ())), True)
+        # In this order the tables do not ascend.
+        both = hung_paper(web, "a", 3)[1]
+        self.assertEqual([name for name, _ in both], ["a", "z"])
+        self.assertIs(shows_hung(web, "a", 3, ("hung", both[::-1])), False)
+
     def test_any_values(self):
         web = sound_web(random.Random(166), ground=True)
         for value in ANY:
@@ -147,7 +162,8 @@ class Ways(Checked):
                     paper = way_paper(web, *one, *other)
                     seen[paper[0]] += 1
                     self.assertIs(shows_way(web, *one, *other, paper), True)
-                    self.assertIs(shows_way(paper=paper, other_day=other[1], other=other[0], day=day, table=one[0], web=web), True)
+                    self.assertIs(shows_way(paper=paper, other_day=other[1], other=other[0], day=day, table=one[0], web=web),
+                                  True)
         self.assertGreater(min(seen.values()), 100)
 
     def test_ways_of_any_length(self):
@@ -178,7 +194,8 @@ class Ways(Checked):
                 other = changed(rng, ("way", row))
                 if rng.random() < 0.3:
                     other = changed(rng, other)
-                wanted = type(other) is tuple and len(other) == 2 and other[0] == "way" and is_way(web, other[1], row[0], row[-1])
+                wanted = type(other) is tuple and len(other) == 2 and other[0] == "way" and is_way(web, other[1], row[0],
+                                                                                                   row[-1])
                 self.assertIs(shows_way(web, *row[0], *row[-1], other), wanted, other)
                 seen[wanted] += 1
         self.assertGreater(min(seen.values()), 10)
@@ -220,14 +237,16 @@ class Ways(Checked):
                 name, at = rng.choice(web.tables), day + rng.randint(-9, 20)
                 less = Records({**sets, name: sets[name] - Days.of([at])})
                 closed = less == Records(sets) or not any(source in less for source in made_from(web, (name, at)))
-                self.assertIs(shows_way(web, table, day, other, other_day, ("apart", less.parts)), closed and (table, day) in less)
+                self.assertIs(shows_way(web, table, day, other, other_day, ("apart", less.parts)),
+                              closed and (table, day) in less)
             whole = Records({name: Days.always() for name in web})
             self.assertIs(shows_way(web, table, day, other, other_day, ("apart", whole.parts)), False)
         self.assertGreater(min(seen.values()), 30)
 
     def test_sets_that_are_closed_but_in_one_turn(self):
         web = Web(Cycle(2, 3), a=[], b=[Back("a", 3)], c=[Sofar("b")])
-        for days in (Days.every(5, 1), Days.every(10, 1), Days.every(5, 0, 1, 2, 3) & Days.until(40), Days.every(35, 2) - Days.until(10)):
+        for days in (Days.every(5, 1), Days.every(10, 1), Days.every(5, 0, 1, 2, 3) & Days.until(40),
+                     Days.every(35, 2) - Days.until(10)):
             sets = {"a": days, "b": days + 3, "c": Days.every(1)}
             for at in range(5):
                 block = (days + 3) & Days.every(5, at)
@@ -246,6 +265,27 @@ class Ways(Checked):
                 less = {**sets, name: sets[name] - Days.every(7 * rest, *list(sets[name].within(100, 100 + rest))[:1])}
                 if less[name] != sets[name]:
                     self.assertIs(shows_way(web, *asked, ("apart", Records(less).parts)), False)
+
+    def test_ends_of_the_days_that_matter(self):
+        # What is made from the last day of a set that goes on to the left lies a period and a tie ahead of its end.
+        for tie, by in ((Ahead("g", 60), -60), (Ahead("g", 1), -1), (Back("g", 60), 60), (Back("g", 0), 0)):
+            web = Web(Cycle(1), g=[], h=[tie])
+            for period in (1, 2, 59, 60, 61, 997):
+                left = Days.every(period, 0) & Days.until(0)
+                right = Days.every(period, 0) & Days.from_day(0)
+                for days in (left, right, Days.every(period, 0), left | right - Days.of([0])):
+                    asked = ("g", days.before(1) if days.least is None else 0, "h", 30 * period + by + 1)
+                    if asked[3] in days + by:
+                        continue
+                    told = {"g": days, "h": days + by}
+                    self.assertIs(shows_way(web, *asked, ("apart", Records(told).parts)), True)
+                    self.assertIs(shows_way(web, *asked, ("apart", Records({"g": days}).parts)), False)
+                    many = min(20, 3000 // period)
+                    for far in (many * period, -many * period):
+                        # The sets lie together up to a day, or from a day on.
+                        for less in (Days.from_day(far + by), Days.until(far + by)):
+                            held = Records({"g": days, "h": (days + by) & less})
+                            self.assertIs(shows_way(web, *asked, ("apart", held.parts)), held == Records(told))
 
     def test_both_kinds(self):
         web = Web(WEEKS, g=[], a=[Back("g", 0)], b=[Ahead("g", 2)])
@@ -270,7 +310,8 @@ class Ways(Checked):
     def test_any_values(self):
         web = Web(WEEKS, g=[], a=[Back("g", 0)])
         for value in ANY:
-            for paper in (value, ("way", value), ("apart", value), ("way", (("g", 0), value)), ("way", (("g", 0), value, ("a", 0))),
+            for paper in (value, ("way", value), ("apart", value), ("way", (("g", 0), value)),
+                          ("way", (("g", 0), value, ("a", 0))),
                           ("apart", (("g", value),)), ("way", (("g", value), ("a", 0)))):
                 self.assertIs(shows_way(web, "g", 0, "a", 0, paper), same(paper, ("way", (("g", 0), ("a", 0)))))
 
@@ -394,7 +435,8 @@ class Sound(Checked):
         row = (0,) * 7
         for value in ANY:
             for paper in (value, ("ring", value), ("heights", value), ("heights", (("a", row), value)),
-                          ("heights", (("a", value), ("g", row))), ("ring", (("a", 0), value)), ("ring", (("a", 0), ("a", value)))):
+                          ("heights", (("a", value), ("g", row))), ("ring", (("a", 0), value)),
+                          ("ring", (("a", 0), ("a", value)))):
                 wanted = same(paper, ("ring", (("a", 0), ("a", 0))))
                 self.assertIs(shows_sound(web, paper), wanted)
             self.assertIs(shows_sound(Web(WEEKS, g=[]), ("heights", (("g", (0, 0, 0, 0, 0, 0, value)),))), same(value, 0) or (
@@ -406,7 +448,8 @@ class SettledPapers(Checked):
     def some_question(self, rng):
         """A web and what is asked of it."""
         web = sound_web(rng, ground=True)
-        return web, some_rule(rng, web), some_keeping(rng, web), rng.choice(web.ground), rng.choice(DAYS), rng.choice([0, 1, 3, 8, 30])
+        return web, some_rule(rng, web), some_keeping(rng, web), rng.choice(web.ground), rng.choice(DAYS), rng.choice([0, 1, 3,
+                                                                                                                       8, 30])
 
     def test_papers_of_the_question(self):
         rng = random.Random(191)
@@ -414,7 +457,8 @@ class SettledPapers(Checked):
             web, rule, keeping, table, day, late = self.some_question(rng)
             paper = settled_paper(web, rule, keeping, table, day, late)
             self.assertIs(shows_settled(web, rule, keeping, table, day, late, paper), True)
-            self.assertIs(shows_settled(paper=paper, late=late, day=day, table=table, keeping=keeping, rule=rule, web=web), True)
+            self.assertIs(shows_settled(paper=paper, late=late, day=day, table=table, keeping=keeping, rule=rule, web=web),
+                          True)
 
     def test_changed_papers(self):
         rng = random.Random(192)
@@ -462,7 +506,8 @@ class SettledPapers(Checked):
             web, rule, keeping, table, day, late = self.some_question(rng)
             day = max(min(day, FAR - 100), 100 - FAR)
             paper = settled_paper(web, rule, keeping, table, day, late)
-            for other in ((web, some_rule(rng, web), keeping, table, day, late), (web, rule, some_keeping(rng, web), table, day, late),
+            for other in ((web, some_rule(rng, web), keeping, table, day, late),
+                          (web, rule, some_keeping(rng, web), table, day, late),
                           (web, rule, keeping, table, day, late + 1), (web, rule, keeping, table, day, rng.randint(0, 40)),
                           (web, rule, keeping, table, day + rng.choice([1, -1, web.cycle.total]), late),
                           (web, rule, keeping, rng.choice(web.ground), day, late),
@@ -476,9 +521,52 @@ class SettledPapers(Checked):
         web = Web(WEEKS, g=[], a=[Back("g", 0)], b=[Same("a")])
         paper = settled_paper(web, Rule(), None, "g", 0, 1)
         for value in ANY:
-            for other in (value, ("settled", value, value, value), ("settled", *paper[1:3], value), ("settled", value, *paper[2:]),
-                          ("settled", paper[1], value, paper[3]), (value, *paper[1:]), ("settled", (("g", value),), *paper[2:])):
+            for other in (value, ("settled", value, value, value), ("settled", *paper[1:3], value),
+                          ("settled", value, *paper[2:]),
+                          ("settled", paper[1], value, paper[3]), (value, *paper[1:]),
+                          ("settled", (("g", value),), *paper[2:])):
                 self.assertIs(shows_settled(web, Rule(), None, "g", 0, 1, other), same(other, paper))
+
+    def test_records_in_sets_besides(self):
+        rng = random.Random(195)
+        for _ in range(80):
+            web, rule, keeping, table, day, late = self.some_question(rng)
+            web = web.put("leaf", [Back("g", 0)]) if len(web) < 6 else web
+            sets = [Records({name: Days.from_parts(told) for name, told in parts})
+                    for parts in settled_paper(web, rule, keeping, table, day, late)[1:]]
+            for _ in range(12):
+                name, at, kind = rng.choice(web.tables), day + rng.randint(-5, 20), rng.randrange(3)
+                if abs(at) <= FAR:
+                    more = [*sets]
+                    more[kind] = more[kind] | Records({name: Days.of([at])})
+                    paper = ("settled", *[held.parts for held in more])
+                    self.assertIs(shows_settled(web, rule, keeping, table, day, late, paper), more == sets)
+
+    def test_up_to_the_night_of_the_correction(self):
+        # r is made again for ever, x is stale up to that night: a paper that tells so for ever only repeats early.
+        web = Web(WEEKS, g=[], r=[Back("r", 1), Back("g", 0)], x=[Back("r", 0)])
+        for late in (0, 3, 30, 100, 1000):
+            for day in (0, 5, 10 ** 50):
+                on, up = Days.from_day(day), Days.until(day + late)
+                told = [Records({"g": Days.of([day]), "r": on}), Records({}), Records({})]
+                for days, wanted in ((on & up, True), (on, False), (Days.none(), False),
+                                     (on & Days.until(day + late + 1), False)):
+                    right = told[0] | Records({"x": on - days})
+                    paper = ("settled", right.parts, Records({"x": days}).parts, ())
+                    self.assertIs(shows_settled(web, Rule(r="all"), None, "g", day, late, paper), wanted)
+
+    def test_sets_that_go_on_to_the_left(self):
+        web = Web(WEEKS, g=[], a=[Back("a", 7), Back("g", 0)])
+        for day in (0, 7, -7 * 10 ** 40):
+            right = Days.every(7, 0) & Days.from_day(day)
+            for days, wanted in ((right, True), (Days.every(7, 0), False), (right | Days.every(7, 1), False),
+                                 (right | Days.every(14, 7), False)):
+                sets = Records({"g": Days.of([day]), "a": days}).parts
+                self.assertIs(shows_settled(web, Rule(a="all"), None, "g", day, 3, ("settled", sets, (), ())), wanted)
+            left = Records({"a": Days.every(7, 0) - right}).parts
+            sets = Records({"g": Days.of([day]), "a": right}).parts
+            for told in (("settled", sets, left, ()), ("settled", sets, (), left)):
+                self.assertIs(shows_settled(web, Rule(a="all"), None, "g", day, 3, told), False)
 
     def test_right_goes_on_from_the_record(self):
         web = Web(WEEKS, g=[], a=[Back("g", 0)])

@@ -62,19 +62,24 @@ class Periods(Checked):
                 right = (paper[1][:3], (), ())
                 self.assertEqual([name for name, _ in right[0]], ["a", "b", "c"])
                 told = ("settled", paper[1], (), ())
-                self.assertIs(shows_settled(web, Rule(a="all", b="all", c="all"), None, "g", day, 3, told), total in (1, 5, 16, 32))
+                self.assertIs(shows_settled(web, Rule(a="all", b="all", c="all"), None, "g", day, 3, told),
+                              total in (1, 5, 16, 32))
         # What repeats with 4,000 days begins too late for the function.
         web = loop_web(32, {"a": [("b", 60), ("g", 0)], "b": [("c", 5)], "c": [("a", 60)], "g": []})
         self.refuses(TooMany, REFUSED, hung, web, "g", 0)
 
     def test_left_and_right_periods(self):
         # All periods of one table count, to the left and to the right, and those of another table.
-        for total, periods, told in ((1, (4000, 1, 1), True), (1, (1, 4000, 2000), True), (1, (32, 125, 1), True), (1, (32, 125, 3), False),
-                                     (1, (32, 1, 125), True), (1, (1, 63, 64), False), (1, (63, 64, 1), False), (7, (4000, 1, 1), False),
-                                     (2, (3, 1, 1333), False), (2, (1, 3, 666), True), (60, (1, 1, 66), True), (60, (66, 1, 61), False)):
+        for total, periods, told in ((1, (4000, 1, 1), True), (1, (1, 4000, 2000), True), (1, (32, 125, 1), True),
+                                     (1, (32, 125, 3), False),
+                                     (1, (32, 1, 125), True), (1, (1, 63, 64), False), (1, (63, 64, 1), False),
+                                     (7, (4000, 1, 1), False),
+                                     (2, (3, 1, 1333), False), (2, (1, 3, 666), True), (60, (1, 1, 66), True),
+                                     (60, (66, 1, 61), False)):
             left, right, other = periods
             web = Web(Cycle(total), g=[], h=[])
-            sets = Records({"g": (Days.every(left, 1) & Days.until(90)) | (Days.every(right, 2) & Days.from_day(100)) | Days.of([95]),
+            sets = Records({"g": (Days.every(left, 1) & Days.until(90)) | (Days.every(right,
+                                                                                      2) & Days.from_day(100)) | Days.of([95]),
                             "h": Days.every(other, 3) | Days.of([5])})
             found = [sets["g"].left_period, sets["g"].right_period, sets["h"].left_period]
             self.assertEqual(found, list(periods))
@@ -156,7 +161,8 @@ class Spans(Checked):
                 told = ("settled", *[paper_of_rows(some, by, 5200) for some in sets])
                 self.refuses(TooMany, REFUSED, settled, web, rule, None, "g", by, late)
                 self.assertIs(shows_settled(web, rule, None, "g", by, late, told), True)
-                self.assertIs(shows_settled(web, rule, None, "g", by, late, ("settled", told[1], told[3], told[2])), told[2] == told[3])
+                self.assertIs(shows_settled(web, rule, None, "g", by, late, ("settled", told[1], told[3], told[2])),
+                              told[2] == told[3])
                 self.assertIs(shows_settled(web, rule, None, "g", by + 7, late, told), False)
 
 
@@ -165,7 +171,8 @@ class Refused(Checked):
     def setUp(self):
         self.web = Web(LONG, a=[], b=[Back("a", 1)])
         self.ring = Web(LONG, a=[], c=[Last("b")], b=[Ahead("c", 5)])
-        self.papers = [None, 5, (), ("hung", ()), hung_paper(self.web, "a", 0), way_paper(self.web, "a", 0, "b", 1), sound_paper(self.ring),
+        self.papers = [None, 5, (), ("hung", ()), hung_paper(self.web, "a", 0), way_paper(self.web, "a", 0, "b", 1),
+                       sound_paper(self.ring),
                        settled_paper(self.web, Rule(), None, "a", 0, 0), ("way", (("a", 0),) * 6000)]
 
     def test_places(self):
@@ -189,12 +196,15 @@ class Refused(Checked):
     def test_any_values_by_name(self):
         for value in [*NOT_NAMES, "ab"]:
             self.refuses(NoTable, {"table": value}, shows_hung, paper=value, day=value, table=value, web=self.web)
-            self.refuses(NoTable, {"table": value}, shows_way, paper=value, other_day=0, other=value, day=3, table="a", web=self.web)
-            self.refuses(NoTable, {"table": value}, shows_settled, paper=value, late=value, day=value, table=value, keeping=None,
+            self.refuses(NoTable, {"table": value}, shows_way, paper=value, other_day=0, other=value, day=3, table="a",
+                         web=self.web)
+            self.refuses(NoTable, {"table": value}, shows_settled, paper=value, late=value, day=value, table=value,
+                         keeping=None,
                          rule=Rule(), web=self.web)
         for value in NOT_DAYS:
             self.refuses(BadDay, {"value": value}, shows_hung, paper=value, day=value, table="b", web=self.ring)
-            self.refuses(BadDay, {"value": value}, shows_way, paper=value, other_day=value, other="b", day=3, table="a", web=self.ring)
+            self.refuses(BadDay, {"value": value}, shows_way, paper=value, other_day=value, other="b", day=3, table="a",
+                         web=self.ring)
             self.refuses(BadNumber, {"value": value}, shows_settled, paper=value, late=value, day=3, table="a", keeping=None,
                          rule=Rule(), web=self.ring)
         for value in (-1, 1001, FAR, -FAR):

@@ -143,4 +143,5 @@ class Refused(Checked):
         self.assertEqual(way_paper(self.web, "a", 0, "a", 4000)[0], "apart")
         self.assertEqual(sound_paper(wide)[0], "heights")
         self.assertEqual(way_paper(Web(WEEKS, g=[], w=[Sofar("g")]), "g", 0, "w", 6), ("way", (("g", 0), ("w", 6))))
-        self.assertEqual(hung_paper(Web(Cycle(1), g=[]), "g", FAR), ("hung", (("g", ((1, ()), FAR, (FAR,), FAR + 1, (1, ()))),)))
+        self.assertEqual(hung_paper(Web(Cycle(1), g=[]), "g", FAR), ("hung",
+                                                                     (("g", ((1, ()), FAR, (FAR,), FAR + 1, (1, ()))),)))

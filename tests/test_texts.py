@@ -5,10 +5,10 @@ from remadedays.cycles import Cycle
 from remadedays.errors import BadText, DayError, NoTable, TooMany
 from remadedays.reader import read_web
 from remadedays.texts import web_text
-from remadedays.ties import Ahead, Back, Last, Same, Sofar, Tie, Whole
+from remadedays.ties import Ahead, Back, Last, Same, Sofar, Whole
 from remadedays.webs import Web
 from samples import HOLDERS, LONG, NESTED, ODD, TOO_LONG, WEEKS, Checked
-from textmodel import changed_text, wrong_in_web
+from textmodel import changed_text, ties_of, wrong_in_web
 from webmodel import some_web
 
 # Names that are words of the texts, too.
@@ -18,7 +18,8 @@ WORDY = ["all", "back", "cycle", "days", "from", "last", "none", "same", "sofar"
 def wordy_web(rng):
     """A drawn web with names that are words of the texts."""
     names = rng.sample(WORDY, rng.randint(0, 6))
-    kinds = [lambda name: Back(name, rng.choice([0, 1, 9, 10, 60])), lambda name: Ahead(name, rng.choice([1, 59, 60])), Sofar, Whole, Last, Same]
+    kinds = [lambda name: Back(name, rng.choice([0, 1, 9, 10, 60])), lambda name: Ahead(name, rng.choice([1, 59, 60])), Sofar,
+             Whole, Last, Same]
     tables = {name: [rng.choice(kinds)(rng.choice(names)) for _ in range(rng.randint(0, 6))] for name in names}
     lengths = rng.choice([(7,), (2, 3), (1,) * 12, (10, 1, 9), (7, 8), (10,)])
     return Web.of(Cycle(*lengths), tables) if rng.random() < 0.9 else some_web(rng)
@@ -34,23 +35,14 @@ def made_of(text):
         return wrong
 
 
-def ties_of(words):
-    """The ties of the words behind the name of a table."""
-    ties, at = [], 0
-    while at < len(words):
-        many = 3 if words[at + 1] in ("back", "ahead") else 2
-        ties.append(Tie.read(" ".join(words[at + 1:at + 1 + many])))
-        at += 1 + many
-    return ties
-
-
 class Texts(Checked):
 
     def test_told(self):
         self.assertEqual(web_text(Web(LONG)), "cycle 2 3")
         self.assertEqual(web_text(Web(WEEKS, b=[], a=(Back("b", 0), Whole("a"), Back("b", 0)))),
                          "cycle 7\ntable a from back 0 b from whole a from back 0 b\ntable b")
-        self.assertEqual(web_text(web=Web.of(Cycle(10), {"table": [Ahead("from", 60), Last("from")], "from": [Same("table"), Sofar("from")]})),
+        self.assertEqual(web_text(web=Web.of(Cycle(10), {"table": [Ahead("from", 60), Last("from")],
+                                                         "from": [Same("table"), Sofar("from")]})),
                          "cycle 10\ntable from from same table from sofar from\ntable table from ahead 60 from from last from")
 
     def test_there_and_back(self):
@@ -60,7 +52,8 @@ class Texts(Checked):
             text = web_text(web)
             self.assertEqual(text.split("\n")[0], f"cycle {web.cycle}")
             self.assertEqual([row.split(" ")[1] for row in text.split("\n")[1:]], list(web.tables))
-            self.assertEqual(text, "\n".join([f"cycle {web.cycle}"] + ["".join([f"table {name}"] + [f" from {tie}" for tie in web[name]])
+            self.assertEqual(text,
+                             "\n".join([f"cycle {web.cycle}"] + ["".join([f"table {name}"] + [f" from {tie}" for tie in web[name]])
                                                                         for name in sorted(web.tables)]))
             found = read_web(text)
             self.assertIs(type(found), Web)
@@ -103,16 +96,21 @@ class Changed(Checked):
         self.refuses(BadText, {"line": 0, "word": 0}, read_web, text=["cycle 7"])
 
     def test_single_words(self):
-        for text, line, word in (("", 0, 0), ("\n", 0, 0), (" ", 0, 0), ("cycle", 0, 1), ("cycle ", 0, 1), ("cycle 0", 0, 1), ("cycle 61", 0, 1),
-                                 ("cycle 07", 0, 1), ("cycle +7", 0, 1), ("cycle 7 ", 0, 2), ("cycle  7", 0, 1), ("cycle 7 x", 0, 2),
+        for text, line, word in (("", 0, 0), ("\n", 0, 0), (" ", 0, 0), ("cycle", 0, 1), ("cycle ", 0, 1), ("cycle 0", 0, 1),
+                                 ("cycle 61", 0, 1),
+                                 ("cycle 07", 0, 1), ("cycle +7", 0, 1), ("cycle 7 ", 0, 2), ("cycle  7", 0, 1),
+                                 ("cycle 7 x", 0, 2),
                                  ("Cycle 7", 0, 0), ("cycle 7\n", 1, 0), ("cycle 7\n\n", 1, 0), ("cycle 7\ntable", 1, 1),
-                                 ("cycle 7\ntable a\n", 2, 0), ("cycle 7\ntable a\ntable a", 2, 1), ("cycle 7\ntable b\ntable a", 2, 1),
+                                 ("cycle 7\ntable a\n", 2, 0), ("cycle 7\ntable a\ntable a", 2, 1),
+                                 ("cycle 7\ntable b\ntable a", 2, 1),
                                  ("cycle 7\ntable A", 1, 1), ("cycle 7\ntable abcdefghi", 1, 1), ("cycle 7\ntable a ", 1, 2),
-                                 ("cycle 7\ntable a from", 1, 3), ("cycle 7\ntable a from back", 1, 4), ("cycle 7\ntable a from back 0", 1, 5),
+                                 ("cycle 7\ntable a from", 1, 3), ("cycle 7\ntable a from back", 1, 4),
+                                 ("cycle 7\ntable a from back 0", 1, 5),
                                  ("cycle 7\ntable a from back 61 a", 1, 4), ("cycle 7\ntable a from ahead 0 a", 1, 4),
                                  ("cycle 7\ntable a from back -1 a", 1, 4), ("cycle 7\ntable a from back a", 1, 4),
                                  ("cycle 7\ntable a from sofar 1 a", 1, 4), ("cycle 7\ntable a from sofar a a", 1, 5),
-                                 ("cycle 7\ntable a sofar a", 1, 2), ("cycle 7\ntable a from far a", 1, 3), ("cycle 7\ntable a\ncycle 7", 2, 0),
+                                 ("cycle 7\ntable a sofar a", 1, 2), ("cycle 7\ntable a from far a", 1, 3),
+                                 ("cycle 7\ntable a\ncycle 7", 2, 0),
                                  ("cycle 7\n table a", 1, 0), ("table a", 0, 0), ("cycle 7\tx", 0, 1), ("cycle \u0667", 0, 1)):
             self.refuses(BadText, {"line": line, "word": word}, read_web, text)
 

@@ -113,7 +113,8 @@ class Whole(Checked):
             house += ("g", day)
             house.sleep(30)
             found = settled(web, rule, keeping, "g", day, late)
-            self.assertIs(shows_settled(web, rule, keeping, "g", day, late, ("settled", found.right.parts, found.stale.parts, found.half.parts)), True)
+            self.assertIs(shows_settled(web, rule, keeping, "g", day, late,
+                                        ("settled", found.right.parts, found.stale.parts, found.half.parts)), True)
             for name in web:
                 for at in range(day - 20, house.night + 1):
                     word = house.state(0, name, at)

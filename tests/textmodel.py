@@ -1,6 +1,8 @@
 """Texts of webs and lines of the desk, word by word: which word is the first one that cannot stand."""
 import re
 
+from remadedays.ties import Tie
+
 LENGTH = "[1-9]|[1-5][0-9]|60"
 BACK = f"0|{LENGTH}"
 NAME = "[a-z]{1,8}"
@@ -9,7 +11,8 @@ DAY = f"{NUMBER}|-[1-9][0-9]{{0,59}}"
 NIGHTS = "0|[1-9][0-9]{0,2}|[1-3][0-9]{3}|4000|all"
 # For each line of the desk but those of cycles and tables what its words are.
 DESK = {"drop": [NAME], "rule": [NAME, NIGHTS], "keep": [NAME, NIGHTS], "undo": [], "show": [], "hung": [NAME, DAY],
-        "roots": [NAME, DAY], "sound": [], "settled": [NAME, DAY, NUMBER], "state": [NAME, DAY, NUMBER, NAME, DAY], "stands": [],
+        "roots": [NAME, DAY], "sound": [], "settled": [NAME, DAY, NUMBER], "state": [NAME, DAY, NUMBER, NAME, DAY],
+        "stands": [],
         "least": [f"{NUMBER}|all"], "lots": [NAME, DAY, NUMBER, NUMBER]}
 
 
@@ -82,9 +85,12 @@ def wrong_in_line(line):
 
 def other_word(rng, word):
     """Another word, which can or cannot stand in the place of one."""
-    return rng.choice([word + "x", word[:-1], "-" + word, "0" + word, "+" + word, word.upper(), word + "0", word + "\n", "", "0", "1", "60",
-                       "61", "-1", "-0", "00", "7", "a", "b", "table", "from", "back", "ahead", "sofar", "whole", "last", "same", "cycle",
-                       "all", "none", "abcdefghi", "4000", "4001", "9" * 60, "1" + "0" * 60, "-" + "9" * 60, "1_0", "1.0", " ", "\t"])
+    return rng.choice([word + "x", word[:-1], "-" + word, "0" + word, "+" + word, word.upper(), word + "0", word + "\n", "",
+                       "0", "1", "60",
+                       "61", "-1", "-0", "00", "7", "a", "b", "table", "from", "back", "ahead", "sofar", "whole", "last",
+                       "same", "cycle",
+                       "all", "none", "abcdefghi", "4000", "4001", "9" * 60, "1" + "0" * 60, "-" + "9" * 60, "1_0", "1.0", " ",
+                       "\t"])
 
 
 def changed_words(rng, words):
@@ -116,3 +122,13 @@ def changed_text(rng, text):
     at = rng.randrange(len(rows))
     rows[at] = " ".join(changed_words(rng, rows[at].split(" ")))
     return "\n".join(rows)
+
+
+def ties_of(words):
+    """The ties of the words behind the name of a table."""
+    ties, at = [], 0
+    while at < len(words):
+        many = 3 if words[at + 1] in ("back", "ahead") else 2
+        ties.append(Tie.read(" ".join(words[at + 1:at + 1 + many])))
+        at += 1 + many
+    return ties
